@@ -75,6 +75,10 @@ class Reading(unittest.TestCase):
                             ("abcdefghijklm", 0), ("( a < b < c )", 4), ("a < ( b ) < c", 5)]:
             self.assertEqual(place_of(text), place, text)
 
+    def test_digits_of_other_scripts(self):
+        for text, place in [(chr(0x663), 0), (chr(0xb2), 0), ("a @ " + chr(0x663), 2), ("a + " + chr(0xe9), 2)]:
+            self.assertEqual(place_of(text), place, text)
+
     def test_faults_by_the_rules(self):
         rng = rng_of(5)
         for _ in range(4000):

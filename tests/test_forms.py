@@ -243,7 +243,8 @@ class OfLoops(unittest.TestCase):
         good = {"b": "a", "a": "b"}
         self.assertIs(forms.is_pairing(BELT, good), True)
         things = [*ANY, good, *mangled(good), {"a": "a"}, {"b": "b"}, {"a": "b"}, {"c": "c"}, {"a": "a", "b": "a"}, {},
-                  {"a": ["a"]}, {("a",): "a"}, {"a": "a", "b": "b", "c": "c"}, {"a": None}]
+                  {"a": ["a"]}, {("a",): "a"}, {"a": "a", "b": "b", "c": "c"}, {"a": None},
+                  {"a": "a", None: "b"}, {"a": "a", 1: "b"}, {("b",): "b", "a": "a"}, {True: "a", "a": "b"}]
         for one_loop in (BELT, PAIR, ALONE):
             self.check_any(forms.is_pairing, right, one_loop, things)
 

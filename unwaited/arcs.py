@@ -101,7 +101,8 @@ def least_dead_ring(loop, name):
     if len(firsts) == 0:
         return None
     _, first = min([(many[(arc[1], 0)], arc) for arc in firsts])
-    return (first, *least_path(loop, many, first[1], 0))
+    rest = least_path(loop, many, first[1], 0)
+    return (first, *rest)
 
 
 def dead_ring(loop):

@@ -1,9 +1,10 @@
 """Texts of EXPRESSIONS: read and shown."""
 
 from unwaited.errors import NoText, Wrong
-from unwaited.forms import GREATEST_VALUE, is_name
+from unwaited.forms import is_name
 
 MOST_WORDS = 120
+MOST_DIGITS = 4
 
 # What comes next while a text is read: a part; the number behind an `@`; a sign, or the end;
 # the same behind a NAME, where an `@` may come, too.
@@ -28,9 +29,8 @@ def is_number_word(word):
 
 
 def is_value_word(word):
-    """Tells whether a word is a NUMBER word up to 9999."""
-    # The length is asked first, as very long numbers cannot be read at all.
-    return is_number_word(word) and len(word) <= len(str(GREATEST_VALUE)) and int(word) <= GREATEST_VALUE
+    """Tells whether a word is a NUMBER word up to 9999: it has no needless `0`, so its length tells."""
+    return is_number_word(word) and len(word) <= MOST_DIGITS
 
 
 def atom_of(word):
@@ -184,12 +184,12 @@ def pieces_of(expression):
         return [name] if d == 0 else [name, "@", str(d)]
     if head == "if":
         _, test, one, other = expression
-        return ["if", *shown_part(test, 0), "then", *shown_part(one, 0), "else", *shown_part(other, 0)]
+        return ["if"] + shown_part(test, 0) + ["then"] + shown_part(one, 0) + ["else"] + shown_part(other, 0)
     _, sign, one, other = expression
     # Rows are taken from the left, so the right side must bind more tightly; beside `<` both sides are SUMS.
     least = max(RANKS[sign], RANKS["+"])
     right = least if sign == "<" else least + 1
-    return [*shown_part(one, least), sign, *shown_part(other, right)]
+    return shown_part(one, least) + [sign] + shown_part(other, right)
 
 
 def show_expression(expression):

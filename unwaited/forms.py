@@ -61,14 +61,14 @@ def inner_parts(expression):
 
 def has_right_shape(thing):
     """Tells whether any value has the shape of an EXPRESSION, whatever stands where its inner parts should."""
-    if not isinstance(thing, tuple) or len(thing) == 0 or not isinstance(thing[0], str):
+    if not isinstance(thing, tuple) or len(thing) == 0:
         return False
     if thing[0] == "number":
         return len(thing) == 2 and is_value(thing[1])
     if thing[0] == "read":
         return len(thing) == 3 and is_name(thing[1]) and is_count(thing[2])
     if thing[0] == "two":
-        return len(thing) == 4 and isinstance(thing[1], str) and thing[1] in OPERATORS
+        return len(thing) == 4 and thing[1] in OPERATORS
     return thing == ("round",) or (thing[0] == "if" and len(thing) == 4)
 
 
@@ -123,9 +123,7 @@ def is_live_loop(thing):
 
 def is_step(loop, thing):
     """Tells whether any value is a STEP of one of the loop's TASKS."""
-    if not is_tuple_of(thing, 2) or not is_name(thing[0]) or not is_count(thing[1]):
-        return False
-    return thing[0] in names_of(loop)
+    return is_tuple_of(thing, 2) and thing[0] in names_of(loop) and is_count(thing[1])
 
 
 def has_just_keys(thing, keys):

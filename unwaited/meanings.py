@@ -82,7 +82,8 @@ def steps_needed(loop, steps):
             if at >= d and (earlier, at - d) not in needed:
                 needed[(earlier, at - d)] = True
                 left.append((earlier, at - d))
-    return [(name, at) for at, _, name in sorted([(at, places[name], name) for name, at in needed])]
+    order = sorted([(at, places[name], name) for name, at in needed])
+    return [(name, at) for at, _, name in order]
 
 
 def value_of(loop, step):

@@ -46,7 +46,7 @@ def whole_steps(cut_run):
 
 def closed(loop, steps):
     """Returns the ascending tuple of these STEPS and of all that are BEFORE one of them."""
-    return tuple(sorted(set([*steps, *before_any(loop, steps)])))
+    return tuple(sorted(set(list(steps) + before_any(loop, steps))))
 
 
 def ordered(loop, steps, choices):
