@@ -103,7 +103,8 @@ STAGE_4 = """
 d
 """
 
-STAGE_5_RUNS = """
+STAGE_5 = """
+>>> from unwaited.beats import beat_of, beats_of, fewest_beats, is_pace_paper, is_plan, pace, pace_ring, plan_by_heights
 >>> from unwaited.runs import all_orders, closed, is_cut_run, is_run, least_run, order_by, orders_many, ready, whole_steps
 >>> pair = ((("a", 0, ("two", "+", ("read", "a", 1), ("number", 1))), ("b", 0, ("two", "*", ("read", "a", 0), ("number", 2)))), ())
 >>> [ready(pair, (), 2), ready(pair, (("a", 0),), 2)]
@@ -123,6 +124,135 @@ STAGE_5_RUNS = """
 [(('a', 0), ('a', 1), ('b', 1)), (('a', 0), ('a', 1), ('b', 0), ('b', 1))]
 >>> tasks = (("a", 1, ("two", "+", ("read", "a", 2), ("round",))), ("b", 5, ("two", "*", ("read", "a", 0), ("read", "b", 3))), ("c", 0, ("read", "b", 0)))
 >>> belt = (tasks, (("a", "c", 3),))
+>>> [beat_of(belt, ("a", 3)), beat_of(belt, ("b", 7)), beats_of(pair, 2)]
+[3, 7, ((('a', 0),), (('a', 1), ('b', 0)), (('b', 1),))]
+>>> plan_by_heights(belt, 3, 2)
+((('a', 0), ('a', 1)), (('a', 2), ('b', 0)), (('b', 1), ('b', 2)), (('c', 0), ('c', 1)), (('c', 2),))
+>>> [[fewest_beats(belt, 3, workers) for workers in (1, 2, 3)], is_plan(belt, 3, 2, beats_of(belt, 3))]
+[[9, 5, 4], False]
+>>> [pace(belt), pace_ring(belt), pace(pair), pace((tasks, ()))]
+[(1, 1), (('a', 'b', 0), ('b', 'c', 0), ('c', 'a', 3)), (1, 1), (1, 2)]
+>>> [is_pace_paper(belt, (pace_ring(belt), {"a": 0, "b": 1, "c": 2})), is_pace_paper(belt, (pace_ring(belt), {"a": 0, "b": 1, "c": 1}))]
+[True, False]
 """
 
-ALL = {"stage 1": STAGE_1, "stage 2": STAGE_2, "stage 3": STAGE_3, "stage 4": STAGE_4, "runs": STAGE_5_RUNS}
+STAGE_6 = """
+>>> from unwaited.losing import is_losing_run, losing_length, losing_run
+>>> from unwaited.turns import endless_tasks, is_turn, is_turn_paper, leads_back, shift, shifts, turn_paper, turn_table
+>>> tasks = (("a", 1, ("two", "+", ("read", "a", 2), ("round",))), ("b", 5, ("two", "*", ("read", "a", 0), ("read", "b", 3))), ("c", 0, ("read", "b", 0)))
+>>> belt = (tasks, (("a", "c", 3),))
+>>> [shifts(belt, False), shift(belt, "b", "b", True)]
+[{('a', 'a'): 5, ('a', 'b'): 5, ('b', 'a'): 6, ('b', 'b'): 3}, 6]
+>>> [turn_table(belt, "b", "b", False), turn_table(belt, "a", "a", False), is_turn(belt, ("b", 0), ("b", 3), False), is_turn(belt, ("b", 0), ("b", 3), True), is_turn(belt, ("b", 0), ("b", 4), False)]
+[((3, 6), 8, 1, (0,)), ((), 5, 1, (0,)), True, False, False]
+>>> [leads_back(belt, "a"), endless_tasks(belt), leads_back((tasks, ()), "a"), endless_tasks((tasks, ())), shifts((tasks, ()), False)]
+[True, (), False, ('a', 'b'), {('a', 'b'): 6}]
+>>> turn_paper(belt, ("b", 0), ("b", 3), False)
+{('b', 3): (), ('c', 0): (('c', 'a', 3), ('a', 'b', 0))}
+>>> [turn_paper(belt, ("b", 0), ("b", 3), True), is_turn_paper(belt, ("b", 0), ("b", 3), True, {("b", 3): (), ("c", 0): (("c", "a", 3), ("a", "b", 0))})]
+[None, False]
+>>> losing_run(belt, ("b", 0), ("b", 3), True)
+((('a', 0), True), (('a', 1), True), (('b', 0), True), (('c', 0), True), (('a', 3), True), (('b', 3), False), (('b', 3), True))
+>>> [losing_run(belt, ("b", 0), ("b", 3), False), losing_length(belt, ("a", 0), ("a", 1), False)]
+[None, 3]
+>>> [is_losing_run(belt, ("a", 0), ("a", 1), False, (("a", 0), ("a", 1), ("b", 0))), is_losing_run(belt, ("a", 0), ("a", 1), False, (("a", 1), ("a", 0), ("b", 0)))]
+[True, False]
+"""
+
+STAGE_7 = """
+>>> from unwaited.judged import are_turn_lists, first_clash, is_clash, is_right, losing_run_of, turn_lists
+>>> from unwaited.keepings import are_alike, cell_of, cells_many, first_lost, found, kept_steps, longer, numbered, shortest
+>>> from unwaited.runs import order_by
+>>> tasks = (("a", 0, ("two", "+", ("round",), ("number", 3))), ("b", 0, ("two", "*", ("read", "a", 0), ("number", 2))), ("c", 5, ("two", "+", ("read", "b", 0), ("read", "c", 1))))
+>>> chain = (tasks, (("a", "c", 1),))
+>>> one = (1, {"a": (0,), "b": (0,), "c": (0,)})
+>>> two = (1, {"a": (0,), "b": (0,), "c": (1,)})
+>>> half = (2, {"a": (1, None), "b": (1, None), "c": (None, 0)})
+>>> [is_right(chain, one, False), is_right(chain, two, False), is_right(chain, two, True), is_right(chain, half, False)]
+[False, True, False, True]
+>>> [cell_of(half, ("b", 6)), cell_of(half, ("a", 7)), cells_many(half), kept_steps(half)]
+[1, None, 2, (('a', 0), ('b', 0), ('c', 1))]
+>>> [numbered(half), longer(two, 2)]
+[(2, {'a': (0, None), 'b': (0, None), 'c': (None, 1)}), (2, {'a': (0, 0), 'b': (0, 0), 'c': (1, 1)})]
+>>> [shortest(longer(half, 3)) == half, are_alike(half, numbered(half)), are_alike(one, two), are_alike(one, longer(one, 4))]
+[True, True, False, True]
+>>> [turn_lists(chain, two, False), turn_lists(chain, one, False), are_turn_lists(chain, two, False, ((("b", 0), ("a", 0)), (("c", 0),)))]
+[((('a', 0), ('b', 0)), (('c', 0),)), None, False]
+>>> [first_clash(chain, one, False), first_clash(chain, two, False), is_clash(chain, one, False, (("c", 0), ("a", 2)))]
+[(('c', 0), ('a', 1)), None, False]
+>>> run = losing_run_of(chain, one)
+>>> run == order_by(chain, 2, ())
+True
+>>> [first_lost(chain, one, run), first_lost(chain, two, run), found(chain, one, run)[5]]
+[5, None, (('c', 1), (('b', 0, ('b', 1)), ('c', 1, ('b', 1))))]
+"""
+
+STAGE_8 = """
+>>> from unwaited.crowds import crowd_clash, crowd_of, greatest_crowd, growing_crowd, is_crowd
+>>> from unwaited.matchings import are_numbers, fewest_cells, is_matching, is_whole, least_matching, matching_cells, numbers
+>>> tasks = (("a", 1, ("two", "+", ("read", "a", 2), ("round",))), ("b", 5, ("two", "*", ("read", "a", 0), ("read", "b", 3))), ("c", 0, ("read", "b", 0)))
+>>> belt = (tasks, (("a", "c", 3),))
+>>> [least_matching(belt, False), fewest_cells(belt, False), fewest_cells(belt, True), fewest_cells((tasks, ()), False)]
+[{'a': 'a', 'b': 'b'}, 8, 11, None]
+>>> [is_matching(belt, False, {"b": "a", "a": "b"}), matching_cells(belt, False, {"b": "a", "a": "b"}), is_matching(belt, False, {"a": "b"}), is_matching((tasks, ()), False, {"a": "a"}), is_whole(belt, {"b": "b"})]
+[True, 11, False, False, False]
+>>> [are_numbers(belt, False, ({"a": 0, "b": 2}, {"a": 5, "b": 5})), are_numbers(belt, False, ({"a": 0, "b": 1}, {"a": 5, "b": 5})), are_numbers(belt, False, ({"a": 0, "b": 0}, {"a": 0, "b": 0}))]
+[True, False, True]
+>>> crowd_of({"a": 0, "b": 2}, {"a": 5, "b": 5})
+(('a', 0), ('a', 1), ('a', 2), ('a', 3), ('a', 4), ('b', 2), ('b', 3), ('b', 4))
+>>> [is_crowd(belt, False, (("a", 0), ("a", 4), ("b", 4))), is_crowd(belt, False, (("a", 0), ("a", 5))), is_crowd(belt, False, (("a", 4), ("a", 0))), len(greatest_crowd(belt, True)), greatest_crowd((tasks, ()), True)]
+[True, False, False, 11, None]
+>>> [growing_crowd((tasks, ()), "b", 3), crowd_clash(belt, False, (("a", 0), ("a", 6), ("b", 1), ("b", 4))), crowd_clash(belt, True, (("b", 1), ("b", 4)))]
+[(('b', 0), ('b', 1), ('b', 2)), (('a', 0), ('a', 6)), None]
+"""
+
+STAGE_9 = """
+>>> from unwaited.errors import TooMany
+>>> from unwaited.shares import corner_keeping, is_best, keeping_with, share_of
+>>> from unwaited.stairs import are_prices, cells_for, corner_matching, corners, price_sum, prices, stair
+>>> tasks = (("a", 1, ("two", "+", ("read", "a", 2), ("round",))), ("b", 5, ("two", "*", ("read", "a", 0), ("read", "b", 3))), ("c", 0, ("read", "b", 0)))
+>>> belt = (tasks, (("a", "c", 3),))
+>>> worths = {"a": 1, "b": 1}
+>>> [corners(belt, worths, False), corners(belt, worths, True), corners((tasks, ()), worths, False), corners(belt, {"a": 9, "b": 1}, False)]
+[((0, 0), (3, 1), (8, 2)), ((0, 0), (5, 1), (11, 2)), ((0, 0),), ((0, 0), (5, 9), (8, 10))]
+>>> [corner_matching(belt, worths, 3, False), [stair(belt, worths, m, False) for m in (0, 1, 3, 5, 9)], cells_for(belt, worths, (3, 2), False), cells_for(belt, worths, (5, 2), False)]
+[{'b': 'b'}, [(0, 1), (1, 3), (1, 1), (7, 5), (2, 1)], 6, None]
+>>> paper = ((1, 5), {"a": (0, 1), "b": (2, 5)}, {"a": (0, 1), "b": (0, 1)})
+>>> [are_prices(belt, worths, False, paper), price_sum(paper, 5), price_sum(paper, 1), price_sum(prices(belt, worths, 1, False), 1), are_prices(belt, worths, False, ((1, 5), {"a": (0, 1), "b": (0, 1)}, {"a": (0, 1), "b": (0, 1)}))]
+[True, (7, 5), (3, 5), (1, 3), False]
+>>> [keeping_with(belt, worths, 1, 1, False), share_of(worths, keeping_with(belt, worths, 1, 3, False)), share_of(worths, keeping_with(belt, worths, 5, 5, False)), share_of(worths, (2, {"a": (0, None), "b": (None, None)}))]
+[None, (1, 3), (7, 5), (1, 2)]
+>>> [is_best(belt, worths, 5, False, keeping_with(belt, worths, 5, 5, False), paper), is_best(belt, worths, 8, False, corner_keeping(belt, worths, 8, False), prices(belt, worths, 8, False)), is_best(belt, worths, 5, False, corner_keeping(belt, worths, 3, False), paper)]
+[True, True, False]
+>>> try:
+...     keeping_with(belt, worths, 5, 7, False)
+... except TooMany as error:
+...     print(error.most)
+12
+"""
+
+STAGE_10_RINGS = """
+>>> from unwaited.matchings import least_matching
+>>> from unwaited.rings import are_right_rings, are_rings, cells_of_rings, keeping_of_rings, matching_of_rings, place_of, rings_of
+>>> tasks = (("a", 0, ("two", "+", ("round",), ("number", 3))), ("b", 0, ("two", "*", ("read", "a", 0), ("number", 2))), ("c", 5, ("two", "+", ("read", "b", 0), ("read", "c", 1))))
+>>> chain = (tasks, (("a", "c", 1),))
+>>> least_matching(chain, False)
+{'a': 'b', 'b': 'a', 'c': 'c'}
+>>> rings = rings_of(chain, least_matching(chain, False), False)
+>>> rings
+((1, (('a', 0), ('b', 0))), (1, (('c', 0),)))
+>>> round_about = rings_of(chain, {"a": "b", "b": "c", "c": "a"}, False)
+>>> [round_about, rings_of(chain, {"b": "b"}, False), rings_of(chain, {}, False)]
+[((2, (('a', 0), ('b', 0), ('c', 0))),), ((1, (('b', 0),)),), ()]
+>>> [keeping_of_rings(chain, rings), keeping_of_rings(chain, round_about)]
+[(1, {'a': (0,), 'b': (0,), 'c': (1,)}), (2, {'a': (0, 1), 'b': (0, 1), 'c': (0, 1)})]
+>>> [cells_of_rings(round_about), place_of(round_about, ("c", 5)), place_of(rings, ("c", 5)), keeping_of_rings(chain, ())]
+[2, (0, 1), (1, 0), (1, {'a': (None,), 'b': (None,), 'c': (None,)})]
+>>> [are_rings(chain, ((1, (("a", 0), ("c", 0))),)), are_right_rings(chain, False, ((1, (("a", 0), ("c", 0))),)), are_rings(chain, ((1, (("a", 1),)),))]
+[True, False, False]
+>>> [matching_of_rings(chain, round_about, False), matching_of_rings(chain, rings, False)]
+[{'a': 'b', 'b': 'c', 'c': 'a'}, {'a': 'b', 'b': 'a', 'c': 'c'}]
+"""
+
+ALL = {"stage 1": STAGE_1, "stage 2": STAGE_2, "stage 3": STAGE_3, "stage 4": STAGE_4, "stage 5": STAGE_5,
+       "stage 6": STAGE_6, "stage 7": STAGE_7, "stage 8": STAGE_8, "stage 9": STAGE_9, "rings": STAGE_10_RINGS}

@@ -125,6 +125,32 @@ def slow_paths(loop, one, other, total, most):
     return found
 
 
+def window(loop, rounds):
+    return tuple((task[0], at) for task in loop[0] for at in range(rounds))
+
+
+def slow_sets(loop, rounds):
+    """All sets of STEPS with which an ORDER can begin."""
+    steps = window(loop, rounds)
+    before = {step: slow_before(loop, step) for step in steps}
+    found = {frozenset()}
+    layer = found
+    while layer:
+        layer = {done | {step} for done in layer for step in steps if step not in done and before[step] <= done}
+        found = found | layer
+    return found
+
+
+def many_tasks(groups):
+    """A LOOP of groups of tasks that have nothing to do with one another: how many tasks, and WAITS by number."""
+    names = iter("abcdefghij")
+    lines = []
+    for many, waits in groups:
+        own = [next(names) for _ in range(many)]
+        lines += [(name, []) for name in own] + [(own[later], own[earlier], d) for later, earlier, d in waits]
+    return loop_of(*lines)
+
+
 ANY = [None, True, False, 0, 1, -1, 2, 9999, 10000, 10 ** 40 - 1, -10 ** 39, "", "a", "round", "number", "read", " ",
        "a" * 3000, "a\nb", "~", [], {}, (), [()], (None,), (True,), ((),), ("round",), ["round"], ("number", 1),
        ("number", True), ["number", 1], ("a", 0), ["a", 0], ("a", True), ("a", 0, ("round",)), ("a", "a", 0),

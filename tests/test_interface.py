@@ -29,6 +29,33 @@ FUNCTIONS = {
     "runs": "all_orders(loop, rounds) closed(loop, steps) is_cut_run(loop, thing) is_run(loop, thing) "
             "least_run(loop, steps) order_by(loop, rounds, choices) orders_many(loop, rounds) "
             "ready(loop, run, rounds) whole_steps(cut_run)",
+    "beats": "beat_of(loop, step) beats_of(loop, rounds) fewest_beats(loop, rounds, workers) "
+             "is_pace_paper(loop, thing) is_plan(loop, rounds, workers, thing) pace(loop) pace_paper(loop) "
+             "pace_ring(loop) plan_by_heights(loop, rounds, workers)",
+    "turns": "endless_tasks(loop) is_turn(loop, one, other, is_cut) "
+             "is_turn_paper(loop, one, other, is_cut, thing) leads_back(loop, name) shift(loop, a, b, is_cut) "
+             "shifts(loop, is_cut) turn_paper(loop, one, other, is_cut) turn_table(loop, a, b, is_cut)",
+    "losing": "is_losing_run(loop, one, other, is_cut, thing) losing_length(loop, one, other, is_cut) "
+              "losing_run(loop, one, other, is_cut)",
+    "keepings": "are_alike(one, other) cell_of(keeping, step) cells_many(keeping) first_lost(loop, keeping, run) "
+                "found(loop, keeping, run) kept_steps(keeping) longer(keeping, times) numbered(keeping) "
+                "shortest(keeping)",
+    "judged": "are_turn_lists(loop, keeping, is_cut, thing) first_clash(loop, keeping, is_cut) "
+              "is_clash(loop, keeping, is_cut, thing) is_right(loop, keeping, is_cut) "
+              "losing_run_of(loop, keeping) turn_lists(loop, keeping, is_cut)",
+    "matchings": "are_numbers(loop, is_cut, thing) fewest_cells(loop, is_cut) is_matching(loop, is_cut, thing) "
+                 "is_whole(loop, matching) least_matching(loop, is_cut) matching_cells(loop, is_cut, matching) "
+                 "numbers(loop, is_cut)",
+    "crowds": "crowd_clash(loop, is_cut, steps) crowd_of(begins, ends) greatest_crowd(loop, is_cut) "
+              "growing_crowd(loop, name, many) is_crowd(loop, is_cut, thing)",
+    "rings": "are_right_rings(loop, is_cut, thing) are_rings(loop, thing) cells_of_rings(rings) "
+             "keeping_of_rings(loop, rings) matching_of_rings(loop, rings, is_cut) place_of(rings, step) "
+             "rings_of(loop, matching, is_cut)",
+    "stairs": "are_prices(loop, worths, is_cut, thing) cells_for(loop, worths, share, is_cut) "
+              "corner_matching(loop, worths, cells, is_cut) corners(loop, worths, is_cut) price_sum(prices, m) "
+              "prices(loop, worths, m, is_cut) stair(loop, worths, m, is_cut)",
+    "shares": "corner_keeping(loop, worths, cells, is_cut) is_best(loop, worths, m, is_cut, keeping, prices) "
+              "keeping_with(loop, worths, m, n, is_cut) share_of(worths, keeping)",
 }
 
 ERRORS = "Dead(ring) NoCommand(line) NoTask(name) NoText(place) Nothing() TooMany(most) Unlike(step) Wrong(place)"

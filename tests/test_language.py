@@ -10,8 +10,9 @@ import unittest
 import warnings
 
 PACKAGE = pathlib.Path(__file__).resolve().parent.parent / "unwaited"
-ORDER = ["errors", "fractions", "forms", "expressions", "looptexts", "meanings", "arcs", "sums", "paths", "runs"]
-FROM_MATH = {"gcd", "lcm"}
+ORDER = ["errors", "fractions", "forms", "expressions", "looptexts", "meanings", "arcs", "sums", "paths", "runs",
+         "beats", "turns", "losing", "keepings", "judged", "matchings", "crowds", "rings", "stairs", "shares"]
+FROM_PYTHON = {"math": {"gcd", "lcm"}, "itertools": {"combinations"}}
 OF_PYTHON = {name for name in dir(builtins) if name != "_"}
 STATEMENTS = (ast.Assign, ast.AugAssign, ast.If, ast.While, ast.For, ast.Return, ast.Break, ast.Continue, ast.Raise,
               ast.Try, ast.Expr, ast.FunctionDef, ast.ClassDef, ast.ImportFrom)
@@ -69,8 +70,8 @@ class Language(unittest.TestCase):
     def test_imports(self):
         for path, tree in trees():
             for node in ast.walk(tree):
-                if isinstance(node, ast.ImportFrom) and node.module == "math":
-                    self.assertLessEqual({one.name for one in node.names}, FROM_MATH)
+                if isinstance(node, ast.ImportFrom) and node.module in FROM_PYTHON:
+                    self.assertLessEqual({one.name for one in node.names}, FROM_PYTHON[node.module])
                 elif isinstance(node, ast.ImportFrom):
                     self.assertEqual((node.module.split(".")[0], node.level), ("unwaited", 0))
                     other = node.module.split(".")[1]
@@ -124,6 +125,21 @@ class Language(unittest.TestCase):
                     self.assertIn(node.func.attr, METHODS | own, (path.name, node.lineno))
                 if isinstance(node, ast.Call) and node.keywords:
                     self.assertEqual([one.arg for one in node.keywords], ["default"], (path.name, node.lineno))
+
+    def test_iterated_at_once(self):
+        # range(..), zip(..), d.items() and the like are not passed on or kept, nor are combinations(..).
+        views = {"range", "zip", "enumerate", "reversed", "items", "keys", "values", "combinations"}
+        takers = {"list", "tuple", "dict", "sorted", "sum", "any", "all", "enumerate", "zip", "min", "max", "reversed"}
+        for path, tree in trees():
+            right = set()
+            for node in ast.walk(tree):
+                if isinstance(node, (ast.For, ast.comprehension)):
+                    right.add(id(node.iter))
+                elif isinstance(node, ast.Call) and isinstance(node.func, ast.Name) and node.func.id in takers:
+                    right.update(id(one) for one in node.args)
+            for node in ast.walk(tree):
+                name = getattr(node.func, "id", getattr(node.func, "attr", None)) if isinstance(node, ast.Call) else None
+                self.assertTrue(name not in views or id(node) in right, (path.name, getattr(node, "lineno", 0)))
 
     def test_module_level(self):
         for path, tree in trees():

@@ -1,10 +1,11 @@
 """[19]: RUNS, CUT RUNS, ORDERS."""
 
 import itertools
+import math
 import unittest
 
-from support import ALONE, ANY, BELT, PAIR, check_truth, check_unchanged, loop_of, mangled, random_live_loop, rng_of
-from support import slow_before
+from support import ALONE, ANY, BELT, PAIR, check_truth, check_unchanged, loop_of, mangled, many_tasks
+from support import random_live_loop, rng_of, slow_before, slow_sets, window
 from unwaited.errors import TooMany
 from unwaited.runs import all_orders, closed, is_cut_run, is_run, least_run, order_by, orders_many, ready, whole_steps
 
@@ -40,32 +41,6 @@ def is_cut_run_as_said(loop, thing):
         if step in ahead or not slow_before(loop, step) <= ahead:
             return False
     return True
-
-
-def window(loop, rounds):
-    return tuple((task[0], at) for task in loop[0] for at in range(rounds))
-
-
-def slow_sets(loop, rounds):
-    """All sets of STEPS with which an ORDER can begin."""
-    steps = window(loop, rounds)
-    before = {step: slow_before(loop, step) for step in steps}
-    found = {frozenset()}
-    layer = found
-    while layer:
-        layer = {done | {step} for done in layer for step in steps if step not in done and before[step] <= done}
-        found = found | layer
-    return found
-
-
-def many_tasks(groups):
-    """A LOOP of groups of tasks that have nothing to do with one another: how many tasks, and WAITS by number."""
-    names = iter("abcdefghij")
-    lines = []
-    for many, waits in groups:
-        own = [next(names) for _ in range(many)]
-        lines += [(name, []) for name in own] + [(own[later], own[earlier], d) for later, earlier, d in waits]
-    return loop_of(*lines)
 
 
 class Runs(unittest.TestCase):
@@ -265,6 +240,38 @@ class Orders(unittest.TestCase):
         self.assertRaises(TooMany, orders_many, free, 40)
         self.assertRaises(TooMany, all_orders, free, 40)
         self.assertEqual(orders_many(free, 1), 3628800)
+
+    def test_wide_windows(self):
+        # As many sets as are seen at once, neither more nor less, decide; whatever is ready together.
+        self.assertEqual(orders_many(many_tasks([(7, [])]), 2), math.factorial(14))
+        self.assertRaises(TooMany, orders_many, many_tasks([(5, [])]), 3)
+        names = "abcdefghij"
+        rows = loop_of(*((name, []) for name in names), *((one, other, 1) for one in names for other in names))
+        self.assertEqual(orders_many(rows, 19), math.factorial(10) ** 19)
+        self.assertRaises(TooMany, orders_many, rows, 20)
+
+    def test_many_calls_that_raise(self):
+        names = ("a", "abcdefghijkl", "at", "b", "iff", "mix", "pump", "rounds", "sum", "z")
+        free = (tuple((name, 0, ("round",)) for name in names), ())
+        # Counted set by set, these would take many minutes.
+        for _ in range(1000):
+            with self.assertRaises(TooMany) as caught:
+                orders_many(free, 40)
+            self.assertEqual(caught.exception.most, 20000)
+
+    def test_sets_by_chance(self):
+        rng = rng_of(64)
+        for _ in range(40):
+            loop = random_live_loop(rng, 5, 2, 5)
+            rounds = rng.randint(2, 4)
+            if len(window(loop, rounds)) > 12:
+                continue
+            # Each beginning has one ORDER at least: so the sets are counted ahead of what follows.
+            steps = window(loop, rounds)
+            ways = {frozenset(): 1}
+            for done in sorted(slow_sets(loop, rounds) - {frozenset()}, key=len):
+                ways[done] = sum(ways.get(done - {step}, 0) for step in done)
+            self.assertEqual(orders_many(loop, rounds), ways[frozenset(steps)])
 
     def test_one_order_of_a_great_window(self):
         row = loop_of(*((name, [("abcdefghij"[at - 1], 0 if at else 1)]) for at, name in enumerate("abcdefghij")))

@@ -93,25 +93,39 @@ def least_path(loop, many, name, total):
     return tuple(path)
 
 
-def least_dead_ring(loop, name):
-    """Returns a RING from a task to itself with the SUM 0 that has the fewest ARCS, of these the least;
-    None if there is none."""
-    many = fewest_arcs(loop, name, 0)
-    firsts = [arc for arc in arcs_from(loop, name) if arc[2] == 0 and (arc[1], 0) in many]
-    if len(firsts) == 0:
+def fewest_to(arcs, goal):
+    """Returns the dict from each name from which some of these ARCS lead to goal to the fewest that do."""
+    many = {goal: 0}
+    layer = [goal]
+    while layer:
+        farther = []
+        for name in layer:
+            for earlier, later, _ in arcs:
+                if later == name and earlier not in many:
+                    many[earlier] = many[name] + 1
+                    farther.append(earlier)
+        layer = farther
+    return many
+
+
+def least_ring(arcs):
+    """Returns the RING of some of these ascending ARCS that has the fewest of them, of these the least; None if
+    there is none."""
+    fewest = {name: fewest_to(arcs, name) for name in sorted(set([arc[0] for arc in arcs]))}
+    closing = [(fewest[arc[0]][arc[1]], arc) for arc in arcs if arc[1] in fewest[arc[0]]]
+    if len(closing) == 0:
         return None
-    _, first = min([(many[(arc[1], 0)], arc) for arc in firsts])
-    rest = least_path(loop, many, first[1], 0)
-    return (first, *rest)
+    left, first = min(closing)
+    ring = [first]
+    for nearer in reversed(range(left)):
+        fitting = [arc for arc in arcs if arc[0] == ring[-1][1] and fewest[first[0]].get(arc[1], None) == nearer]
+        ring.append(fitting[0])
+    return tuple(ring)
 
 
 def dead_ring(loop):
     """Returns a RING with the SUM 0 that has the fewest ARCS, of these the least; None if the LOOP is LIVE."""
-    rings = [least_dead_ring(loop, name) for name in names_of(loop)]
-    found = [(len(ring), ring) for ring in rings if ring is not None]
-    if len(found) == 0:
-        return None
-    return min(found)[1]
+    return least_ring([arc for arc in arcs_of(loop) if arc[2] == 0])
 
 
 def reached_from(loop, name):

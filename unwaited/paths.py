@@ -42,18 +42,22 @@ def nearest_before(arcs, step):
     return [(earlier, at - d) for earlier, _, d in arcs[name] if d <= at]
 
 
-def before_any(loop, steps):
-    """Returns the list of all STEPS that are BEFORE one of these."""
-    arcs = arcs_by_later(loop)
-    found = {}
+def before_along(arcs, steps):
+    """Returns the dict of True of all STEPS that are BEFORE one of these; arcs are what arcs_by_later returns."""
+    before = {}
     left = list(steps)
     while left:
         later = left.pop()
         for step in nearest_before(arcs, later):
-            if step not in found:
-                found[step] = True
+            if step not in before:
+                before[step] = True
                 left.append(step)
-    return list(found)
+    return before
+
+
+def before_any(loop, steps):
+    """Returns the list of all STEPS that are BEFORE one of these."""
+    return list(before_along(arcs_by_later(loop), steps))
 
 
 def steps_before(loop, step):

@@ -49,14 +49,18 @@ def closed(loop, steps):
     return tuple(sorted(set(list(steps) + before_any(loop, steps))))
 
 
-def ordered(loop, steps, choices):
-    """Returns the RUN of an ascending tuple of STEPS that is closed: at each place, of those that are ready,
-    the one that the next choice tells, the least one if choices are used up."""
+def ordered(loop, steps, couples, choices):
+    """Returns the RUN of an ascending tuple of STEPS that is closed, the first of each of these couples of them
+    ahead of the second one: at each place, of those that are ready, it has the one that the next choice tells,
+    the least one if choices are used up."""
     arcs = arcs_by_later(loop)
-    lacking = {step: len(nearest_before(arcs, step)) for step in steps}
+    ahead = {step: nearest_before(arcs, step) for step in steps}
+    for one, other in couples:
+        ahead[other].append(one)
+    lacking = {step: len(earlier) for step, earlier in ahead.items()}
     behind = {step: [] for step in steps}
     for step in steps:
-        for earlier in nearest_before(arcs, step):
+        for earlier in ahead[step]:
             behind[earlier].append(step)
     free = [step for step in steps if lacking[step] == 0]
     order = []
@@ -74,7 +78,7 @@ def ordered(loop, steps, choices):
 
 def least_run(loop, steps):
     """Returns the least RUN in which just these STEPS and all that are BEFORE one of them stand."""
-    return ordered(loop, closed(loop, steps), ())
+    return ordered(loop, closed(loop, steps), (), ())
 
 
 def window_of(loop, rounds):
@@ -91,7 +95,7 @@ def ready(loop, run, rounds):
 
 def order_by(loop, rounds, choices):
     """Returns the ORDER of WINDOW rounds that these choices tell."""
-    return ordered(loop, window_of(loop, rounds), choices)
+    return ordered(loop, window_of(loop, rounds), (), choices)
 
 
 class Window:
@@ -114,18 +118,39 @@ class Window:
         """Returns the ascending list of the numbers of the STEPS that can stand first in an ORDER."""
         return [number for number, bits in enumerate(self.ahead) if bits == 0]
 
-    def then_free(self, done, free, number):
-        """Returns the ascending list of the numbers of the STEPS that are ready when this one has been done
-        as well; done is the set ahead of it, and free the list for that."""
-        done = done | 1 << number
-        freed = [later for later in self.behind[number] if self.ahead[later] & done == self.ahead[later]]
-        return sorted([other for other in free if other != number] + freed)
+    def joined(self, done, numbers):
+        """Returns the set of what is in done, and of the STEPS with these numbers."""
+        for number in numbers:
+            done |= 1 << number
+        return done
+
+    def then_free(self, done, free, numbers):
+        """Returns the ascending list of the numbers of the STEPS that are ready when done is the set of those that
+        are done, numbers being the last of them, and free what was ready ahead of these."""
+        freed = [later for number in numbers for later in self.behind[number]
+                 if self.ahead[later] & done == self.ahead[later]]
+        return sorted(set([number for number in free if number not in numbers] + freed))
+
+    def has_many_sets(self):
+        """Tells whether more than 20,000 sets can be seen at once: all that is ready done at one time, again and
+        again, at each time any part of it but none makes a set of its own."""
+        done = 0
+        free = self.first_free()
+        sets_many = 1
+        while free and sets_many <= MOST_SETS:
+            sets_many += (1 << len(free)) - 1
+            done = self.joined(done, free)
+            free = self.then_free(done, free, free)
+        return sets_many > MOST_SETS
 
 
 def orders_many(loop, rounds):
     """Returns how many ORDERS a WINDOW has; raises TooMany(20000) if there are more sets of STEPS with which
     one can begin."""
     window = Window(loop, rounds)
+    # Most WINDOWS with too many sets are told so at once: to count them takes long.
+    if window.has_many_sets():
+        raise TooMany(MOST_SETS)
     # For each set with so many STEPS: how many ways lead to it, and what is ready then.
     ways = {0: 1}
     free = {0: window.first_free()}
@@ -138,7 +163,7 @@ def orders_many(loop, rounds):
                 more = done | 1 << number
                 if more not in farther:
                     farther[more] = 0
-                    then_free[more] = window.then_free(done, free[done], number)
+                    then_free[more] = window.then_free(more, free[done], [number])
                     sets_many += 1
                 farther[more] += many
             if sets_many > MOST_SETS:
@@ -156,8 +181,8 @@ def all_orders(loop, rounds):
         farther = []
         for order, done, free in begun:
             for number in free:
-                then_free = window.then_free(done, free, number)
-                farther.append(((*order, window.steps[number]), done | 1 << number, then_free))
+                more = done | 1 << number
+                farther.append(((*order, window.steps[number]), more, window.then_free(more, free, [number])))
             # Each beginning can be ended, so there are at least as many ORDERS as beginnings.
             if len(farther) > MOST_ORDERS:
                 raise TooMany(MOST_ORDERS)

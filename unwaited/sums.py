@@ -133,25 +133,29 @@ class Pictures:
     """Pictures of SUMS: the one of s is a number whose bit at a task's place is 1 if a PATH with the SUM s leads
     from the first task to this one. Each picture hangs only on the last few ones."""
 
-    def __init__(self, loop, first, names):
-        """Only PATHS by way of these names are asked, which must have all that is between two of them."""
-        self.places = {name: place for place, name in enumerate(names)}
-        arcs = [arc for arc in arcs_of(loop) if arc[0] in self.places and arc[1] in self.places]
-        reached = self.reached_at_once(names_in_order(loop), arcs)
-        self.jumps = self.jumps_along(arcs, reached)
+    def __init__(self, arcs, order, first):
+        """Only PATHS by way of the names in order are asked, which must have all that is between two of them;
+        each stands behind those from which ARCS with d 0 lead to it."""
+        self.places = {name: place for place, name in enumerate(order)}
+        inner = [arc for arc in arcs if arc[0] in self.places and arc[1] in self.places]
+        reached = self.reached_at_once(order, inner)
+        self.jumps = self.jumps_along(inner, reached)
         self.known = {d: {0: 0} for d in self.jumps}
         self.depth = max(list(self.jumps), default=1)
         self.drawn = [reached.get(first, 0)]
+        # Where the last pictures have come so far; and how they come again, 0 as long as this is not known.
+        self.seen = {}
+        self.begin = 0
+        self.modulus = 0
 
     def reached_at_once(self, order, arcs):
         """Returns the dict from each name to the picture of the tasks to which PATHS with the SUM 0 lead from it."""
         reached = {}
         for name in order[::-1]:
-            if name in self.places:
-                reached[name] = 1 << self.places[name]
-                for earlier, later, d in arcs:
-                    if earlier == name and d == 0:
-                        reached[name] |= reached[later]
+            reached[name] = 1 << self.places[name]
+            for earlier, later, d in arcs:
+                if earlier == name and d == 0:
+                    reached[name] |= reached[later]
         return reached
 
     def jumps_along(self, arcs, reached):
@@ -192,14 +196,31 @@ class Pictures:
         """Returns the tuple of the last pictures, as many as the next one can hang on."""
         return tuple(self.drawn[-self.depth:])
 
+    def draw_or_end(self):
+        """Draws the next picture, if the last ones have not come before; otherwise keeps how they come again."""
+        last = self.last()
+        if last in self.seen:
+            self.begin = self.seen[last]
+            self.modulus = len(self.drawn) - self.begin
+            return
+        # At first there are fewer than depth of them: what comes later is never as short.
+        self.seen[last] = len(self.drawn)
+        self.draw()
+
     def draw_till_again(self):
-        """Draws pictures till the last ones have come before; returns how many were drawn then."""
-        self.draw_below(self.depth)
-        seen = {}
-        while self.last() not in seen:
-            seen[self.last()] = len(self.drawn)
-            self.draw()
-        return seen[self.last()]
+        """Draws pictures till it is known how they come again: from begin on, each so many numbers later."""
+        while self.modulus == 0:
+            self.draw_or_end()
+
+    def at(self, number):
+        """Returns the picture of any integer, which may be very great; 0 if it is below 0."""
+        if number < 0:
+            return 0
+        while number >= len(self.drawn) and self.modulus == 0:
+            self.draw_or_end()
+        if number < len(self.drawn):
+            return self.drawn[number]
+        return self.drawn[self.begin + (number - self.begin) % self.modulus]
 
     def sums_to(self, name, begin, end):
         """Returns the list of the numbers from begin to end - 1 in whose pictures a task stands."""
@@ -221,26 +242,31 @@ def names_to(loop, name):
     return sorted(list(names))
 
 
+def pictures_to(loop, one, other):
+    """Returns Pictures of the SUMS from one by way of all names from which PATHS lead to other."""
+    names = names_to(loop, other)
+    return Pictures(arcs_of(loop), [name for name in names_in_order(loop) if name in names], one)
+
+
 def sum_table(loop, one, other):
     """Returns the TABLE that HAS the SUMS of all PATHS from one to other."""
-    pictures = Pictures(loop, one, names_to(loop, other))
-    begin = pictures.draw_till_again()
-    end = len(pictures.drawn)
-    modulus = end - begin
-    remainders = sorted([number % modulus for number in pictures.sums_to(other, begin, end)])
+    pictures = pictures_to(loop, one, other)
+    pictures.draw_till_again()
+    begin, modulus = pictures.begin, pictures.modulus
+    remainders = sorted([number % modulus for number in pictures.sums_to(other, begin, begin + modulus)])
     return least_table(pictures.sums_to(other, 0, begin), begin, modulus, remainders)
 
 
 def sums_below(loop, one, other, most):
     """Returns the ascending tuple of the SUMS below most of PATHS from one to other."""
-    pictures = Pictures(loop, one, names_to(loop, other))
+    pictures = pictures_to(loop, one, other)
     pictures.draw_below(most)
     return tuple(pictures.sums_to(other, 0, most))
 
 
 def reach(loop, name, most):
     """Returns the REACH of a name: for each task the SUMS up to and with most of PATHS to it."""
-    pictures = Pictures(loop, name, names_of(loop))
+    pictures = Pictures(arcs_of(loop), names_in_order(loop), name)
     pictures.draw_below(most + 1)
     return {later: tuple(pictures.sums_to(later, 0, most + 1)) for later in names_of(loop)}
 

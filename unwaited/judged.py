@@ -1,0 +1,212 @@
+"""Whether a KEEPING is RIGHT, with papers either way."""
+
+from unwaited.arcs import arcs_by_later, arcs_of, reached_from
+from unwaited.forms import is_step, is_tuple_of, names_in_order, names_of, reads_of
+from unwaited.keepings import cell_of, cells_many, kept_steps
+from unwaited.losing import length_of, run_of, ways_of
+from unwaited.paths import before_along
+from unwaited.turns import Turns
+
+
+def steps_by_cell(keeping):
+    """Returns a list with a list for each CELL: the STEPS that have it with rounds below the period, round by
+    round, names ascending."""
+    cells = [[] for _ in range(cells_many(keeping))]
+    for step in kept_steps(keeping):
+        cells[cell_of(keeping, step)].append(step)
+    return cells
+
+
+def in_turn(turns, steps):
+    """Returns a list of STEPS, round by round: those of one round in the order of their TURNS, if they have one."""
+    by_round = {}
+    for name, at in steps:
+        by_round.setdefault(at, []).append(name)
+    ordered = []
+    for at, names in by_round.items():
+        # How many have their TURN ahead of it tells the place of each.
+        ranks = [(len([one for one in names if turns.has_turn(one, name, 0)]), name) for name in names]
+        ordered.extend([(name, at) for _, name in sorted(ranks)])
+    return ordered
+
+
+def links_of(period, steps):
+    """Returns a list of tuples (a, b, s): from each STEP to the next one, and from the last one to the first one
+    moved on by the period."""
+    links = []
+    for (a, i), (b, j) in zip(steps, steps[1:]):
+        links.append((a, b, j - i))
+    if len(steps) > 0:
+        links.append((steps[-1][0], steps[0][0], steps[0][1] + period - steps[-1][1]))
+    return links
+
+
+def turn_lists(loop, keeping, is_cut):
+    """Returns the TURN LISTS of a KEEPING, None if there are none."""
+    turns = Turns(loop, is_cut)
+    lists = [in_turn(turns, steps) for steps in steps_by_cell(keeping)]
+    links = [link for steps in lists for link in links_of(keeping[0], steps)]
+    # Each kind of link is asked once: of a long period there are very many, but few kinds.
+    if not all([turns.has_turn(a, b, s) for a, b, s in sorted(set(links))]):
+        return None
+    return tuple([tuple(steps) for steps in lists])
+
+
+def are_turn_lists(loop, keeping, is_cut, thing):
+    """Tells whether any value is the TURN LISTS of a KEEPING."""
+    if not isinstance(thing, tuple) or not all([isinstance(steps, tuple) for steps in thing]):
+        return False
+    # Asked first, as True would pass for the number 1.
+    if not all([is_step(loop, step) for steps in thing for step in steps]):
+        return False
+    return thing == turn_lists(loop, keeping, is_cut)
+
+
+def is_right(loop, keeping, is_cut):
+    """Tells whether a KEEPING is RIGHT."""
+    return turn_lists(loop, keeping, is_cut) is not None
+
+
+def are_clashing(turns, keeping, one, other):
+    """Tells whether two kept STEPS of a KEEPING have one CELL and no TURN, either way."""
+    if cell_of(keeping, one) != cell_of(keeping, other):
+        return False
+    s = other[1] - one[1]
+    return not turns.has_turn(one[0], other[0], s) and not turns.has_turn(other[0], one[0], -s)
+
+
+def is_clash(loop, keeping, is_cut, thing):
+    """Tells whether any value is a CLASH of a KEEPING."""
+    if not is_tuple_of(thing, 2) or not all([is_step(loop, step) for step in thing]):
+        return False
+    one, other = thing
+    if not all([step[0] in keeping[1] and cell_of(keeping, step) is not None for step in thing]):
+        return False
+    if (one[1], one[0]) >= (other[1], other[0]):
+        return False
+    return are_clashing(Turns(loop, is_cut), keeping, one, other)
+
+
+def first_clash(loop, keeping, is_cut):
+    """Returns the CLASH with the least round of other, then name of other, round of one, name of one; None if the
+    KEEPING is RIGHT."""
+    if is_right(loop, keeping, is_cut):
+        return None
+    turns = Turns(loop, is_cut)
+    once = list(kept_steps(keeping))
+    steps = once + [(name, at + keeping[0]) for name, at in once]
+    for place, other in enumerate(steps):
+        for one in steps[:place]:
+            if are_clashing(turns, keeping, one, other):
+                return (one, other)
+    return None
+
+
+def ringed_names(loop):
+    """Returns the list of the names to which PATHS from a RING lead, those on it among them."""
+    reached = {name: reached_from(loop, name) for name in names_of(loop)}
+    on_rings = [earlier for earlier, later, _ in arcs_of(loop) if earlier in reached[later]]
+    return [name for name in names_of(loop) if any([name in reached[other] for other in on_rings])]
+
+
+def many_of(bits):
+    """Returns how many members a set has: a number with a bit for each."""
+    return f"{bits:b}".count("1")
+
+
+def closed_rows(loop, most, rounds):
+    """Returns the dict from each name to a list, round by round, of tuples (size, bits): a set of the STEP and of
+    all that are BEFORE it, a bit for each, round by round. Behind the first one with more members than most, all
+    of which have more, a list ends; the others have at least so many rounds."""
+    order = names_in_order(loop)
+    arcs = arcs_by_later(loop)
+    ringed = ringed_names(loop)
+    rows = {name: [] for name in order}
+    at = 0
+    # Where RINGS lead, sets grow from round to round without an end; elsewhere perhaps none gets too great.
+    while at < rounds or any([len(rows[name]) == at for name in ringed]):
+        for place, name in enumerate(order):
+            ahead = [(earlier, at - d) for earlier, _, d in arcs[name] if d <= at]
+            if len(rows[name]) < at or any([len(rows[earlier]) <= early for earlier, early in ahead]):
+                continue
+            bits = 1 << (at * len(order) + place)
+            for earlier, early in ahead:
+                bits |= rows[earlier][early][1]
+            # All the others are those of the round ahead, each one round later.
+            size = many_of(bits & ((1 << len(order)) - 1)) + (rows[name][-1][0] if at > 0 else 0)
+            if size <= most:
+                rows[name].append((size, bits))
+        at += 1
+    return rows
+
+
+class Shortest:
+    """The search for the shortest RUN in which something is lost. best is the number of its STEPS, way the tuple
+    (x, y, reader) of what comes to it: y has written to the CELL of x when reader reads it."""
+
+    def __init__(self, loop, keeping, best):
+        self.loop = loop
+        self.keeping = keeping
+        self.best = best
+        self.way = None
+        self.places = {name: place for place, name in enumerate(names_in_order(loop))}
+        # Farther on, where no RING leads, nothing comes that would not have come a period ahead.
+        rounds = 2 * keeping[0] + len(self.places) * max([d for _, _, d in arcs_of(loop)], default=0)
+        self.rows = closed_rows(loop, best - 1, rounds)
+        ringed = ringed_names(loop)
+        self.steps = sorted([(size, name, at) for name, row in self.rows.items() for at, (size, _) in enumerate(row)
+                             if at < rounds or name in ringed])
+        self.writers = {}
+        self.early_writers = {}
+        for size, name, at in self.steps:
+            if name in keeping[1]:
+                cell = cell_of(keeping, (name, at))
+                self.writers.setdefault(cell, []).append((size, name, at))
+                if at < keeping[0]:
+                    self.early_writers.setdefault(cell, []).append((size, name, at))
+
+    def is_in(self, step, bits):
+        """Tells whether a set has a STEP."""
+        return bits >> (step[1] * len(self.places) + self.places[step[0]]) & 1 == 1
+
+    def ask_writers(self, x, reader):
+        """Looks for all that may be written to the CELL of x behind it, ahead of a reader."""
+        size, bits = self.rows[reader[0]][reader[1]]
+        before_x = self.rows[x[0]][x[1]][1]
+        # If both were later, all could be moved down by the period.
+        writers = self.writers if x[1] < self.keeping[0] else self.early_writers
+        for many, name, at in writers.get(cell_of(self.keeping, x), []):
+            if many >= self.best:
+                break
+            before_y = self.rows[name][at][1]
+            if not self.is_in((name, at), before_x) and not self.is_in(reader, before_y):
+                together = size + many_of(before_y & ~bits)
+                if together < self.best:
+                    self.best = together
+                    self.way = (x, (name, at), reader)
+
+    def ask_readers(self):
+        """Looks for all that may be read."""
+        reads = {name: reads_of(body) for name, _, body in self.loop[0]}
+        for size, name, at in self.steps:
+            if size >= self.best:
+                break
+            for earlier, d in reads[name]:
+                if at >= d and cell_of(self.keeping, (earlier, at - d)) is not None:
+                    self.ask_writers((earlier, at - d), (name, at))
+
+
+def losing_run_of(loop, keeping):
+    """Returns a RUN with as few STEPS as possible whose last STEP finds another STEP than it reads, None if the
+    KEEPING is RIGHT."""
+    clash = first_clash(loop, keeping, False)
+    if clash is None:
+        return None
+    ways = ways_of(loop, clash[0], clash[1], False)
+    fewest = min([length_of(way) for way in ways])
+    search = Shortest(loop, keeping, fewest)
+    search.ask_readers()
+    if search.way is None:
+        return run_of(loop, [way for way in ways if length_of(way) == fewest][0], False)
+    x, y, reader = search.way
+    return run_of(loop, (x, y, reader, before_along(arcs_by_later(loop), [y, reader])), False)
