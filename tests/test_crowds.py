@@ -81,7 +81,7 @@ class Crowds(unittest.TestCase):
         self.assertEqual(crowd_of({"a": 0, "b": 2}, {"b": 5, "a": 2}), (("a", 0), ("a", 1), ("b", 2), ("b", 3), ("b", 4)))
         self.assertEqual(crowd_of({"b": 7, "a": 9}, {"a": 10, "b": 7}), (("a", 9),))
         self.assertEqual(crowd_of({}, {}), ())
-        check_unchanged(self, crowd_of, {"b": 7, "a": 9}, {"a": 10, "b": 8})
+        self.assertEqual(check_unchanged(self, crowd_of, {"b": 7, "a": 9}, {"a": 10, "b": 8}), (("a", 9), ("b", 7)))
 
     def test_any_numbers_make_a_crowd(self):
         rng = rng_of(264)

@@ -6,7 +6,7 @@ import unittest
 from slow import Slow, random_keeping
 from support import ALONE, ANY, BELT, PAIR, check_truth, check_unchanged, loop_of, mangled, random_live_loop, rng_of
 from support import window
-from unwaited.judged import are_turn_lists, first_clash, is_clash, is_right, losing_run_of, turn_lists
+from unwaited.judged import are_turn_lists, closed_rows, first_clash, is_clash, is_right, losing_run_of, turn_lists
 from unwaited.keepings import cells_many, first_lost, longer
 from unwaited.losing import is_losing_run, losing_length, losing_run
 from unwaited.runs import all_orders, is_run
@@ -237,13 +237,77 @@ class Papers(unittest.TestCase):
                 lost += 1
         self.assertGreater(lost, 30)
 
-    def test_a_reader_far_on(self):
-        # a and b have one CELL from time to time; b needs all of a row, but late ones of d, e need little.
-        lone = loop_of(("a", []), ("b", [("a", 8)]), ("c", [("c", 1)]), ("d", [("c", 0), ("b", 8)]))
-        keeping = (12, {"a": (0,) + (None,) * 11, "b": (None,) * 11 + (0,), "c": (None,) * 12})
-        run = losing_run_of(lone, keeping)
-        self.assertEqual(len(run), shortest_loss(Slow(lone), keeping, 44))
-        self.assertEqual(first_lost(lone, keeping, run), len(run) - 1)
+    def test_far_on(self):
+        # What is farther on, x, y or the reader, can need less than what is near: it may need the same as the others,
+        # or not have its TURN where the near ones have theirs.
+        none = (None,)
+        for loop, keeping, fewest in (
+                (loop_of(("c", [("c", 1)]), ("f", [("h", 3)]), ("h", []), ("f", "f", 2), ("h", "c", 1), ("h", "f", 3),
+                         ("h", "h", 2), ("h", "h", 3)), (4, {"c": (0,) + none * 3, "h": none * 2 + (0,) + none}), 8),
+                (loop_of(("f", [("f", 1)]), ("i", [("j", 1), ("j", 0)]), ("j", []), ("i", "i", 1), ("j", "f", 1)),
+                 (5, {"f": (0,) + none * 4, "j": none * 2 + (0,) + none * 2}), 8),
+                (loop_of(("d", []), ("f", []), ("j", [("f", 5), ("d", 2)]), ("d", "j", 0), ("f", "d", 1), ("j", "d", 1)),
+                 (4, {"d": (0,) + none * 3, "f": none * 3 + (0,)}), 16),
+                (loop_of(("c", []), ("e", [("i", 3)]), ("i", []), ("e", "c", 0), ("e", "i", 0), ("i", "c", 3)),
+                 (2, {"i": none + (0,)}), 6),
+                (loop_of(("b", []), ("c", [("e", 2)]), ("e", []), ("b", "e", 2), ("c", "b", 0), ("e", "b", 0)),
+                 (5, {"e": none * 3 + (0,) + none}), 15),
+                (loop_of(("a", []), ("e", [("h", 1)]), ("h", []), ("e", "a", 0), ("h", "a", 1), ("h", "h", 2)),
+                 (3, {"h": none * 2 + (0,)}), 10),
+                (loop_of(("a", [("j", 0)]), ("d", [("d", 2)]), ("i", [("a", 1)]), ("j", [("i", 0)]), ("d", "a", 0)),
+                 (1, {"a": none, "d": (0,), "i": (0,), "j": (0,)}), 6),
+                (loop_of(("c", [("c", 1)]), ("d", [("d", 3)]), ("i", []), ("c", "i", 1), ("c", "i", 3), ("d", "c", 0),
+                         ("d", "i", 1)), (4, {"c": (0,) + none * 3, "d": none * 2 + (0, 0)}), 12),
+                (loop_of(("a", [("d", 0)]), ("c", [("a", 0), ("c", 1), ("c", 2), ("j", 1)]), ("d", [("a", 1), ("a", 2)]),
+                         ("g", [("j", 2)]), ("j", []), ("a", "d", 2), ("a", "g", 0), ("c", "d", 1), ("j", "g", 0)),
+                 (1, {"a": none, "c": (0,), "d": (0,), "j": none}), 7),
+                (loop_of(("f", [("i", 3)]), ("i", []), ("f", "i", 0), ("i", "i", 3)), (2, {"i": none + (0,)}), 4),
+                (loop_of(("d", [("f", 2)]), ("f", []), ("d", "d", 2), ("d", "f", 0), ("d", "f", 2), ("f", "f", 2)),
+                 (5, {"f": none * 3 + (0,) + none}), 10),
+                (loop_of(("c", []), ("f", [("c", 4)]), ("c", "c", 4), ("f", "c", 0), ("f", "c", 4)),
+                 (6, {"c": none * 4 + (0,) + none}), 6)):
+            run = losing_run_of(loop, keeping)
+            self.assertEqual([len(run), shortest_loss(Slow(loop), keeping, 40)], [fewest, fewest])
+            self.assertIs(is_run(loop, run), True)
+            self.assertEqual(first_lost(loop, keeping, run), fewest - 1)
+
+    def test_few_kept_steps(self):
+        # Few STEPS with one CELL: so what is lost soonest may be far on.
+        rng = rng_of(250)
+        for _ in range(700):
+            loop = random_live_loop(rng, rng.randint(2, 4), rng.choice((1, 2, 3, 4)), rng.randint(0, 6))
+            slow = Slow(loop)
+            if not slow.read_names:
+                continue
+            period = rng.randint(1, 5)
+            rows = {name: [None] * period for name in slow.read_names}
+            for _ in range(rng.randint(1, 3)):
+                rows[rng.choice(slow.read_names)][rng.randrange(period)] = 0
+            keeping = (period, {name: tuple(row) for name, row in rows.items()})
+            run = losing_run_of(loop, keeping)
+            rounds = 2 * period + len(loop[0]) * max((d for _, _, d in slow.arcs), default=0)
+            self.assertEqual(None if run is None else len(run), shortest_loss(slow, keeping, rounds), (loop, keeping))
+            if run is not None:
+                self.assertEqual(first_lost(loop, keeping, run), len(run) - 1)
+
+    def test_what_is_looked_at(self):
+        # All sets with few members of tasks to which RINGS lead, however far; of the others as far as is asked.
+        rng = rng_of(249)
+        ringless = 0
+        for _ in range(60):
+            loop = random_live_loop(rng, 4, 3, 4)
+            slow = Slow(loop)
+            most, rounds = rng.randint(0, 9), rng.randint(0, 6)
+            rows = closed_rows(loop, most, rounds)
+            self.assertEqual(sorted(rows), slow.names)
+            for name, row in rows.items():
+                for at, (size, _) in enumerate(row):
+                    self.assertEqual(size, len(slow.closed((name, at))))
+                if len(row) < rounds or len(slow.closed((name, 99))) > 15:
+                    self.assertGreater(len(slow.closed((name, len(row)))), most)
+                else:
+                    ringless += 1
+        self.assertGreater(ringless, 10)
 
     def test_periods_up_to_twelve(self):
         rng = rng_of(247)

@@ -61,6 +61,22 @@ class Matchings(unittest.TestCase):
         self.assertGreater(finite, 60)
         self.assertGreater(several, 10)
 
+    def test_least_of_many(self):
+        # Many MATCHINGS have as many CELLS: whichever letter is another one, the least of them is told.
+        rng = rng_of(256)
+        names = "abcde"
+        for place in range(40):
+            waits = [(one, other, rng.choice((1, 1, 1, 2))) for one in names for other in names]
+            loop = loop_of(*((name, [(name, rng.choice((1, 2, 3)))]) for name in names),
+                           *rng.sample(waits, rng.randint(18, 25)), *((name, "a", 3) for name in names),
+                           *(("a", name, 3) for name in names))
+            slow = Slow(loop)
+            is_cut = place % 2 == 0
+            cells, values = min((cells, list(matching.values())) for matching, cells in slow.matchings(is_cut, 12)
+                                if len(matching) == len(names))
+            self.assertEqual(list(least_matching(loop, is_cut).values()), values)
+            self.assertEqual(fewest_cells(loop, is_cut), cells)
+
     def test_papers_for_one_another(self):
         # The fewest CELLS, the greatest CROWD and the SIZE of NUMBERS are equal; and RINGS keep all in so many.
         rng = rng_of(252)

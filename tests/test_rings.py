@@ -144,6 +144,10 @@ class Rings(unittest.TestCase):
         self.assertEqual(keeping_of_rings(BELT, ((4, (("a", 0),)), (2, (("b", 0),))))[0], 4)
         self.assertEqual(cells_many(keeping_of_rings(BELT, rings)), 10)
 
+    def test_keys_in_any_order(self):
+        self.assertEqual(rings_of(BELT, {"b": "b", "a": "a"}, False), ((5, (("a", 0),)), (3, (("b", 0),))))
+        self.assertEqual(rings_of(BELT, {"b": "a", "a": "b"}, False), ((11, (("a", 0), ("b", 5))),))
+
     def test_no_rings(self):
         self.assertEqual(keeping_of_rings(BELT, ()), (1, {"a": (None,), "b": (None,)}))
         self.assertEqual(keeping_of_rings(ALONE, ()), (1, {}))

@@ -7,7 +7,7 @@ import unittest
 from support import ALONE, ANY, BELT, PAIR, check_truth, check_unchanged, loop_of, mangled, many_tasks
 from support import random_live_loop, rng_of, slow_before, slow_sets, window
 from unwaited.errors import TooMany
-from unwaited.runs import all_orders, closed, is_cut_run, is_run, least_run, order_by, orders_many, ready, whole_steps
+from unwaited.runs import Window, all_orders, closed, is_cut_run, is_run, least_run, order_by, orders_many, ready, whole_steps
 
 GREAT = 10 ** 40 - 1
 
@@ -249,6 +249,24 @@ class Orders(unittest.TestCase):
         rows = loop_of(*((name, []) for name in names), *((one, other, 1) for one in names for other in names))
         self.assertEqual(orders_many(rows, 19), math.factorial(10) ** 19)
         self.assertRaises(TooMany, orders_many, rows, 20)
+
+    def test_sets_seen_at_once(self):
+        rng = rng_of(65)
+        alike = 0
+        for _ in range(150):
+            loop = random_live_loop(rng, 5, 2, 6)
+            rounds = rng.randint(0, 3)
+            if len(window(loop, rounds)) < 11:
+                sets = len(slow_sets(loop, rounds))
+                self.assertLessEqual(Window(loop, rounds).sets_at_least(), sets)
+                alike += Window(loop, rounds).sets_at_least() == sets
+        self.assertGreater(alike, 30)
+        # Where all waits for all there are no other sets.
+        names = "abcde"
+        rows = loop_of(*((name, []) for name in names), *((one, other, 1) for one in names for other in names))
+        for rounds in range(5):
+            self.assertEqual(Window(rows, rounds).sets_at_least(), 1 + 31 * rounds)
+        self.assertEqual(Window(many_tasks([(3, [])]), 4).sets_at_least(), 4096)
 
     def test_many_calls_that_raise(self):
         names = ("a", "abcdefghijkl", "at", "b", "iff", "mix", "pump", "rounds", "sum", "z")

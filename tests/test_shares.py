@@ -12,7 +12,7 @@ from unwaited.judged import is_right
 from unwaited.keepings import cells_many, longer
 from unwaited.rings import keeping_of_rings, rings_of
 from unwaited.shares import corner_keeping, is_best, keeping_with, share_of
-from unwaited.stairs import corner_matching, corners, prices, stair
+from unwaited.stairs import are_prices, corner_matching, corners, price_sum, prices, stair
 
 OPEN = (BELT[0], ())
 WORTHS = {"a": 1, "b": 1}
@@ -229,8 +229,11 @@ class Best(unittest.TestCase):
             alike += right
         self.assertGreaterEqual(alike, 1)
         for thing in [*ANY, *mangled(paper)]:
-            self.assertIn(is_best(BELT, WORTHS, 1, False, keeping, thing), (False, True))
+            right = are_prices(BELT, WORTHS, False, thing) and price_sum(thing, 1) == (1, 3)
+            check_truth(self, is_best(BELT, WORTHS, 1, False, keeping, thing), right, thing)
             self.assertIs(is_best(BELT, WORTHS, 1, False, thing, thing), False)
+        # As little as STAIR, but no PRICES.
+        self.assertIs(is_best(BELT, WORTHS, 1, False, keeping, ((0, 1), {"a": (1, 3), "b": (0, 1)}, paper[2])), False)
         for thing in ANY:
             for other in ANY:
                 self.assertIs(is_best(PAIR, {"a": 1}, 2, True, thing, other), False)

@@ -178,6 +178,10 @@ class Stairs(unittest.TestCase):
         strange += [((1, 6), *paper[1:]), ((10 ** 12 - 1, 5 * 10 ** 12), *paper[1:]), ((0, 1), *paper[1:]), ((-1, 5), *paper[1:])]
         strange.append(((0, 1), {"a": (1, 1), "b": (1, 1)}, {"a": (0, 1), "b": (0, 1)}))
         strange.append(((1, 4), {"a": (0, 1), "b": (1, 4)}, {"a": (-1, 4), "b": (1, 4)}))
+        # Where enough is paid otherwise, neither a CELL nor a value may have a price below 0.
+        great = {"a": (99, 1), "b": (99, 1)}
+        strange += [((-1, 5), great, paper[2]), ((0, 1), great, paper[2]), ((99, 1), {"a": (-1, 5), "b": (0, 1)}, paper[2]),
+                    ((99, 1), {"a": (0, 1), "b": (-1, 5)}, paper[2]), ((99, 1), {"a": (0, 1), "b": (0, 1)}, paper[2])]
         for is_cut in (False, True):
             for thing in strange:
                 check_truth(self, are_prices(BELT, worths, is_cut, thing), are_prices_as_said(slow, worths, is_cut, thing),

@@ -98,6 +98,16 @@ class Turns(unittest.TestCase):
         self.assertEqual(turn_table(two, "b", "b", True), ((), 4, 3, (0,)))
         self.assertEqual(turn_table(two, "a", "a", False), ((), 0, 1, ()))
 
+    def test_several_remainders(self):
+        # Two ways to b, which comes round in five rounds.
+        for late in range(6):
+            two = loop_of(("a", []), ("c", [("a", late)]), ("b", [("b", 5)]), ("b", "c", 1), ("b", "c", 3))
+            table = turn_table(two, "a", "b", False)
+            self.assertEqual(table[2:], (5, tuple(sorted(((late + 1) % 5, (late + 3) % 5)))))
+            self.assertIs(is_table(table), True)
+            self.assertEqual([s for s in range(30) if has(table, s)],
+                             sorted(late + s + more for more in range(0, 30, 5) for s in (1, 3) if late + s + more < 30))
+
     def test_the_last_reader_itself(self):
         # (b, 3) reads (b, 0) first, and then writes: its TURN is there, but no STRICT one.
         self.assertIs(is_turn(BELT, ("b", 0), ("b", 3), False), True)
@@ -138,6 +148,15 @@ class Turns(unittest.TestCase):
                         ("e", [("f", 0)]), ("f", []), ("f", "b", 0), ("f", "c", 0), ("f", "d", 0))
         self.assertEqual(shift(apart, "a", "f", False),
                          next(s for s in range(6, 999) if s % 7 == 5 and s % 8 == 6 and s % 5 == 2))
+
+    def test_a_shift_that_is_later_still(self):
+        late = loop_of(("a", []), ("c", [("a", 8), ("d", 8)]), ("d", [("c", 8)]), ("e", [("a", 8), ("f", 8)]),
+                       ("f", [("e", 7)]), ("g", [("a", 1), ("h", 8)]), ("h", [("g", 5)]), ("i", [("a", 0), ("i", 7)]),
+                       ("j", [("c", 0), ("e", 0), ("g", 0), ("i", 0)]), ("k", [("j", 0)]))
+        told = next(s for s in range(10 ** 6) if (s % 16, s % 15, s % 13, s % 7) == (8, 8, 1, 0))
+        self.assertEqual([shift(late, "a", "j", False), shift(late, "a", "j", True)], [told, told])
+        self.assertIs(is_turn(late, ("a", 0), ("j", told + 16 * 15 * 13 * 7 * 10 ** 30), False), True)
+        self.assertIs(is_turn(late, ("a", 0), ("j", told + 16 * 15 * 13 * 10 ** 30), False), False)
 
     def test_leads_back(self):
         self.assertEqual([leads_back(BELT, "a"), leads_back(BELT, "b"), endless_tasks(BELT)], [True, True, ()])
@@ -196,6 +215,14 @@ class Papers(unittest.TestCase):
                         for thing in things if one != other else []:
                             check_truth(self, is_turn_paper(loop, one, other, is_cut, thing),
                                         is_paper_as_said(loop, one, other, is_cut, thing), (one, other, is_cut, thing))
+
+    def test_any_value_for_one_reader(self):
+        own = loop_of(("a", [("a", 1)]))
+        paper = {("a", 1): (("a", "a", 1),)}
+        for thing in [*ANY, paper, *mangled(paper), {1: ()}, {"a1": ()}, {("a",): ()}, {None: ()}, {("a", 1, 1): ()}]:
+            for is_cut in (False, True):
+                check_truth(self, is_turn_paper(own, ("a", 0), ("a", 2), is_cut, thing),
+                            is_paper_as_said(own, ("a", 0), ("a", 2), is_cut, thing), thing)
 
     def test_truths_are_no_numbers_of_readers(self):
         own = loop_of(("a", [("a", 1)]))

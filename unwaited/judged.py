@@ -8,46 +8,36 @@ from unwaited.paths import before_along
 from unwaited.turns import Turns
 
 
-def steps_by_cell(keeping):
+def steps_by_cell(turns, keeping):
     """Returns a list with a list for each CELL: the STEPS that have it with rounds below the period, round by
-    round, names ascending."""
+    round, those of one round in the order of their TURNS, if they have one."""
     cells = [[] for _ in range(cells_many(keeping))]
-    for step in kept_steps(keeping):
-        cells[cell_of(keeping, step)].append(step)
-    return cells
+    for name, row in keeping[1].items():
+        rank = turns.rank_of(name)
+        for at, cell in enumerate(row):
+            if cell is not None:
+                cells[cell].append((at, rank, name))
+    return [[(name, at) for at, _, name in sorted(steps)] for steps in cells]
 
 
-def in_turn(turns, steps):
-    """Returns a list of STEPS, round by round: those of one round in the order of their TURNS, if they have one."""
-    by_round = {}
-    for name, at in steps:
-        by_round.setdefault(at, []).append(name)
-    ordered = []
-    for at, names in by_round.items():
-        # How many have their TURN ahead of it tells the place of each.
-        ranks = [(len([one for one in names if turns.has_turn(one, name, 0)]), name) for name in names]
-        ordered.extend([(name, at) for _, name in sorted(ranks)])
-    return ordered
-
-
-def links_of(period, steps):
-    """Returns a list of tuples (a, b, s): from each STEP to the next one, and from the last one to the first one
-    moved on by the period."""
-    links = []
-    for (a, i), (b, j) in zip(steps, steps[1:]):
-        links.append((a, b, j - i))
-    if len(steps) > 0:
-        links.append((steps[-1][0], steps[0][0], steps[0][1] + period - steps[-1][1]))
-    return links
+def links_of(period, lists):
+    """Returns a list of tuples (a, b, s), each once: from each STEP of a CELL to the next one, and from the last one
+    to the first one moved on by the period."""
+    # Of a long period there are very many, but few kinds of them.
+    links = {}
+    for steps in lists:
+        for (a, i), (b, j) in zip(steps, steps[1:]):
+            links[(a, b, j - i)] = True
+        (a, i), (b, j) = steps[-1], steps[0]
+        links[(a, b, j + period - i)] = True
+    return list(links)
 
 
 def turn_lists(loop, keeping, is_cut):
     """Returns the TURN LISTS of a KEEPING, None if there are none."""
     turns = Turns(loop, is_cut)
-    lists = [in_turn(turns, steps) for steps in steps_by_cell(keeping)]
-    links = [link for steps in lists for link in links_of(keeping[0], steps)]
-    # Each kind of link is asked once: of a long period there are very many, but few kinds.
-    if not all([turns.has_turn(a, b, s) for a, b, s in sorted(set(links))]):
+    lists = steps_by_cell(turns, keeping)
+    if not all([turns.has_turn(a, b, s) for a, b, s in links_of(keeping[0], lists)]):
         return None
     return tuple([tuple(steps) for steps in lists])
 

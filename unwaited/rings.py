@@ -64,12 +64,8 @@ def are_rings(loop, thing):
 def members_in_turn(turns, ring):
     """Returns the list of the members of a RING OF CELLS in the order of their offsets, those with one offset in
     the order of their TURNS, if they have one."""
-    _, members = ring
-    ranks = []
-    for name, offset in members:
-        ahead = [other for other, own in members if own == offset and turns.has_turn(other, name, 0)]
-        ranks.append((offset, len(ahead), name))
-    return [(name, offset) for offset, _, name in sorted(ranks)]
+    ranks = sorted([(offset, turns.rank_of(name), name) for name, offset in ring[1]])
+    return [(name, offset) for offset, _, name in ranks]
 
 
 def is_right_ring(turns, ring):

@@ -131,9 +131,10 @@ class Window:
                  if self.ahead[later] & done == self.ahead[later]]
         return sorted(set([number for number in free if number not in numbers] + freed))
 
-    def has_many_sets(self):
-        """Tells whether more than 20,000 sets can be seen at once: all that is ready done at one time, again and
-        again, at each time any part of it but none makes a set of its own."""
+    def sets_at_least(self):
+        """Returns a number of sets of STEPS with which one can begin, there may be more: all that is ready done at
+        one time, again and again, at each time any part of it but none makes a set of its own. Beyond 20,000
+        it goes no farther."""
         done = 0
         free = self.first_free()
         sets_many = 1
@@ -141,7 +142,7 @@ class Window:
             sets_many += (1 << len(free)) - 1
             done = self.joined(done, free)
             free = self.then_free(done, free, free)
-        return sets_many > MOST_SETS
+        return sets_many
 
 
 def orders_many(loop, rounds):
@@ -149,7 +150,7 @@ def orders_many(loop, rounds):
     one can begin."""
     window = Window(loop, rounds)
     # Most WINDOWS with too many sets are told so at once: to count them takes long.
-    if window.has_many_sets():
+    if window.sets_at_least() > MOST_SETS:
         raise TooMany(MOST_SETS)
     # For each set with so many STEPS: how many ways lead to it, and what is ready then.
     ways = {0: 1}

@@ -58,7 +58,7 @@ def sums_by_taken(links, m):
         farther = {}
         for taken in layer:
             for at, turns, _ in own:
-                if taken >> at & 1 == 0 and turns <= m:
+                if taken >> at & 1 == 0:
                     more = taken | 1 << at
                     together = (sums[taken] << turns) & ((1 << (m + 1)) - 1)
                     farther[more] = farther.get(more, 0) | together

@@ -86,6 +86,11 @@ class Turns:
                 return None
         return s
 
+    def rank_of(self, name):
+        """Returns how many READ tasks have their TURN ahead of a READ task in its own round: fewer for each of them,
+        as TURNS follow one another."""
+        return len([other for other in self.names if self.has_turn(other, name, 0)])
+
     def all_shifts(self):
         """Returns the dict from all couples that have a SHIFT to it, ascending."""
         least = {(a, b): self.least_shift(a, b) for a in self.names for b in self.names}
