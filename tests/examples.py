@@ -1,4 +1,4 @@
-"""The examples of the document for the modules that are there, to be run as they stand."""
+"""The examples of the document, to be run as they stand."""
 
 STAGE_1 = """
 >>> from unwaited.errors import NoTask
@@ -231,9 +231,11 @@ STAGE_9 = """
 12
 """
 
-STAGE_10_RINGS = """
+STAGE_10 = """
+>>> from unwaited.machine import code_of, code_text, run_code, run_keeping
 >>> from unwaited.matchings import least_matching
 >>> from unwaited.rings import are_right_rings, are_rings, cells_of_rings, keeping_of_rings, matching_of_rings, place_of, rings_of
+>>> from unwaited.runs import order_by
 >>> tasks = (("a", 0, ("two", "+", ("round",), ("number", 3))), ("b", 0, ("two", "*", ("read", "a", 0), ("number", 2))), ("c", 5, ("two", "+", ("read", "b", 0), ("read", "c", 1))))
 >>> chain = (tasks, (("a", "c", 1),))
 >>> least_matching(chain, False)
@@ -252,7 +254,187 @@ STAGE_10_RINGS = """
 [True, False, False]
 >>> [matching_of_rings(chain, round_about, False), matching_of_rings(chain, rings, False)]
 [{'a': 'b', 'b': 'c', 'c': 'a'}, {'a': 'b', 'b': 'a', 'c': 'c'}]
+>>> code = code_of(chain, rings)
+>>> code["c"]
+(('load', 0, 1, 0, 0, 0), ('load', 1, 1, 0, 1, 5), ('two', '+'), ('store', 1, 1, 0))
+>>> run = order_by(chain, 2, ())
+>>> run_code(code, run)
+{('a', 0): 3, ('a', 1): 4, ('b', 0): 6, ('b', 1): 8, ('c', 0): 11, ('c', 1): 19}
+>>> run_keeping(chain, (1, {"a": (0,), "b": (0,), "c": (0,)}), run)[("c", 1)]
+16
+>>> code_text({"a": code["a"], "b": code_of(chain, ())["b"]}).split("\\n")
+['a:', 'round', 'push 3', 'two +', 'store 0 1 0', 'b:', 'slow a 0 0', 'push 2', 'two *', 'keep b']
+"""
+
+STAGE_11 = """
+>>> from unwaited.windows import are_chains, are_window_prices, cells_in, chains_in, counting, crowd_in, from_rounds, is_crowd_in
+>>> from unwaited.windows import is_turn_in, kept_in, most_kept_in, window_price_sum, window_prices
+>>> tasks = (("a", 1, ("two", "+", ("read", "a", 2), ("round",))), ("b", 5, ("two", "*", ("read", "a", 0), ("read", "b", 3))), ("c", 0, ("read", "b", 0)))
+>>> belt = (tasks, (("a", "c", 3),))
+>>> [counting(belt, 3), counting((tasks[:1], ()), 3)]
+[(('a', 0), ('a', 1), ('a', 2), ('b', 0), ('b', 1), ('b', 2)), (('a', 0),)]
+>>> [is_turn_in(belt, 3, ("a", 0), ("b", 0), False), is_turn_in(belt, 2, ("a", 0), ("b", 0), False), is_turn_in(belt, 2, ("a", 0), ("b", 0), True)]
+[False, True, False]
+>>> [[cells_in(belt, rounds, False) for rounds in (0, 1, 2, 3, 4, 5, 9)], from_rounds(belt, False), from_rounds(belt, True), from_rounds((tasks, ()), False)]
+[[0, 1, 2, 4, 6, 8, 8], 5, 6, None]
+>>> [chains_in(belt, 1, False), crowd_in(belt, 5, False) == tuple(sorted(crowd_in(belt, 5, False))), len(chains_in(belt, 5, False)), len(crowd_in(belt, 5, False))]
+[((('a', 0), ('b', 0)),), True, 8, 8]
+>>> [are_chains(belt, 2, False, ((("a", 0), ("b", 0)),)), are_chains(belt, 2, False, ((("a", 0), ("b", 1)),)), is_crowd_in(belt, 4, False, (("a", 0), ("a", 1), ("a", 2), ("a", 3), ("b", 0), ("b", 1)))]
+[True, False, True]
+>>> [most_kept_in(belt, {"a": 1, "b": 1}, 6, m, False) for m in range(9)]
+[0, 3, 5, 7, 8, 9, 10, 11, 12]
+>>> paper = window_prices(belt, {"a": 1, "b": 1}, 6, 3, False)
+>>> [are_window_prices(belt, {"a": 1, "b": 1}, 6, False, paper), window_price_sum(paper, 3), len(kept_in(belt, {"a": 1, "b": 1}, 6, 3, False))]
+[True, 7, 3]
+"""
+
+STAGE_12 = """
+>>> from unwaited.cuts import cut_everywhere, fewest_for, first_wrong, free_to_cut, is_of_lot, is_right_for, played, price_of_cuts, shifts_for, wrong_cut_run
+>>> from unwaited.looptexts import read_loop
+>>> loop = read_loop("task a first 7 = a @ 1 + 1\\ntask b first 0 = a * 2 + b @ 1")
+>>> [price_of_cuts(read_loop("task a first 7 = a @ 1 + 1")), price_of_cuts(loop)]
+[(1, 2), (None, None)]
+>>> loop = read_loop("task a first 7 = a @ 1 + 1\\ntask b first 0 = a * 2 + b @ 1\\nwait a b 1")
+>>> shifts_for(loop, ("a",))
+{('a', 'a'): 2, ('a', 'b'): 1, ('b', 'a'): 2, ('b', 'b'): 1}
+>>> [fewest_for(loop, ()), fewest_for(loop, ("a",)), fewest_for(loop, ("b",)), price_of_cuts(loop), free_to_cut(loop)]
+[2, 3, 3, (2, 3), ()]
+>>> keeping = (1, {"a": (0,), "b": (1,)})
+>>> [is_right_for(loop, (), keeping), is_right_for(loop, ("a",), keeping), is_right_for(loop, ("b",), keeping)]
+[True, False, False]
+>>> again = cut_everywhere(loop, ("b",), (("a", 0), ("b", 0)))
+>>> [again, is_of_lot(loop, ("a",), again), first_wrong(loop, keeping, again)]
+[((('a', 0), True), (('b', 0), False), (('b', 0), True)), False, None]
+>>> played(loop, keeping, ((("a", 0), True), (("b", 0), True), (("a", 1), False), (("a", 1), True)))
+((('a', 0), True, ()), (('b', 0), True, (('a', 0, ('a', 0)),)), (('a', 1), False, (('a', 1, ('a', 0)),)), (('a', 1), True, (('a', 1, ('a', 1)),)))
+>>> wrong_cut_run(loop, ("a",), keeping)
+((('a', 0), True), (('b', 0), True), (('a', 1), False), (('a', 1), True))
+"""
+
+STAGE_13 = """
+>>> from unwaited.covers import covers, least_waits, needless_waits, parting_run, runs_within, same_runs, struck, with_waits
+>>> from unwaited.errors import Dead, Nothing
+>>> from unwaited.looptexts import read_loop
+>>> from unwaited.saved import best_wait, cells_with, fewest_waits, loop_with, savings
+>>> loop = read_loop("task a first 0 = round\\ntask b first 0 = a\\ntask c first 0 = b\\nwait c a 0\\nwait a c 2\\nwait b a 0")
+>>> covers(loop)
+(('a', 'b', 0), ('b', 'c', 0), ('c', 'a', 2))
+>>> [needless_waits(loop), least_waits(loop), struck(loop) == with_waits(loop, (("a", "c", 2),)), same_runs(loop, struck(loop))]
+[(('b', 'a', 0), ('c', 'a', 0)), (('a', 'c', 2),), True, True]
+>>> free = with_waits(loop, ())
+>>> [runs_within(loop, free), runs_within(free, loop), parting_run(free, loop)]
+[True, False, (('a', 2),)]
+>>> try:
+...     parting_run(loop, free)
+... except Nothing:
+...     print("none")
+none
+>>> [cells_with(loop, ("a", "b", 3)), cells_with(loop, ("a", "c", 1)), cells_with(free, ("a", "b", 1))]
+[2, 1, None]
+>>> try:
+...     loop_with(loop, ("a", "c", 0))
+... except Dead as error:
+...     print(error.ring)
+(('a', 'c', 0), ('c', 'a', 0))
+>>> pair = read_loop("task a first 0 = round\\ntask b first 0 = a")
+>>> [savings(pair, 1), best_wait(pair, 3), fewest_waits(pair, 2, 3)]
+[{('a', 'a', 1): None, ('a', 'b', 1): 1, ('b', 'a', 0): None, ('b', 'a', 1): None, ('b', 'b', 1): None}, ('a', 'b', 1), (('a', 'b', 1),)]
+"""
+
+STAGE_14 = """
+>>> from unwaited.errors import Nothing, NoText, Unlike
+>>> from unwaited.hall import Hall
+>>> from unwaited.logs import everybody_falls, log_text, reopened, whole_lines
+>>> tasks = (("a", 0, ("two", "+", ("round",), ("number", 3))), ("b", 0, ("two", "*", ("read", "a", 0), ("number", 2))), ("c", 5, ("two", "+", ("read", "b", 0), ("read", "c", 1))))
+>>> chain = (tasks, (("a", "c", 1),))
+>>> hall = Hall(chain, (2, {"a": (0, 1), "b": (2, 2), "c": (0, 1)}))
+>>> [hall.ask(3), hall.ask(0), hall.ask(3)]
+[(('a', 0), ()), None, (('a', 0), ())]
+>>> hall.fall(3, 3)
+>>> [hall.hands(), hall.cells(), hall.ask(0)]
+[{}, (3, None, None), (('a', 0), ())]
+>>> try:
+...     hall.done(0, 4)
+... except Unlike as error:
+...     print(error.step)
+('a', 0)
+>>> hall.done(0, 3)
+>>> hall.ask(1)
+(('b', 0), (('a', 0, 3),))
+>>> hall.done(1, 6)
+>>> [hall.ask(1), hall.marks()]
+[(('c', 0), (('b', 0, 6), ('c', 1, 5))), {'a': (1, ()), 'b': (1, ()), 'c': (0, ())}]
+>>> hall.done(1, 11)
+>>> [hall.cells(), hall.slow(), hall.cut_run()]
+[(11, None, 6), {}, ((('a', 0), False), (('a', 0), True), (('b', 0), True), (('c', 0), True))]
+>>> text = log_text(hall.lines())
+>>> text
+'ask 3\\nfall 3 3\\nask 0\\ndone 0 3\\nask 1\\ndone 1 6\\nask 1\\ndone 1 11\\n'
+>>> again = reopened(chain, (2, {"a": (0, 1), "b": (2, 2), "c": (0, 1)}), text[:-4])
+>>> [again == hall, again.hands(), everybody_falls(again), again.ask(5)]
+[False, {1: ('c', 0)}, (1,), (('c', 0), (('b', 0, 6), ('c', 1, 5)))]
+>>> whole_lines("ask 1\\n\\ndone")
+('ask 1', '')
+>>> try:
+...     reopened(chain, (2, {"a": (0, 1), "b": (2, 2), "c": (0, 1)}), "ask 3\\nask 0\\n")
+... except NoText as error:
+...     print(error.place)
+1
+>>> try:
+...     hall.done(7, 1)
+... except Nothing:
+...     print("nothing")
+nothing
+"""
+
+STAGE_15 = """
+>>> from unwaited.desk import Desk
+>>> from unwaited.drawings import keeping_text, memory_line, read_keeping, run_lines
+>>> from unwaited.errors import Dead, NoCommand, NoText, Nothing
+>>> from unwaited.kept import Kept
+>>> from unwaited.looptexts import read_loop
+>>> loop = read_loop("task a first 7 = a @ 1 + 1\\ntask b first 0 = a * 2 + b @ 1\\nwait a b 1")
+>>> keeping = read_keeping(loop, "b - 1\\n# two cells\\na 0 0")
+>>> [keeping, keeping_text(loop, keeping)]
+[(2, {'a': (0, 0), 'b': (None, 1)}), 'a 0 0\\nb - 1']
+>>> run = (("a", 0), ("b", 0), ("a", 1), ("b", 1))
+>>> run_lines(loop, keeping, run)
+('a 0 reads first to 0', 'b 0 reads a:0 first to slow', 'a 1 reads a:0 to 0', 'b 1 reads a:1 slow to 1')
+>>> memory_line(loop, keeping, run[:3])
+'a:1 .'
+>>> try:
+...     read_keeping(loop, "a 0 1\\nb 0")
+... except NoText as error:
+...     print(error.place)
+(1, 2)
+>>> kept = Kept(loop)
+>>> kept.put_wait(("b", "a", 0))
+>>> kept.put_wait(("b", "a", 0))
+>>> [kept.cells(), kept.changes(), kept.share(1), kept.worths()]
+[2, 1, (1, 1), {'a': 1, 'b': 1}]
+>>> kept.strike_needless()
+>>> [kept.loop() == loop, kept.changes(), kept == Kept(loop)]
+[True, 2, False]
+>>> try:
+...     kept.put_wait(("a", "b", 0))
+... except Dead as error:
+...     print(error.ring)
+(('a', 'b', 0), ('b', 'a', 0))
+>>> kept.undo()
+>>> kept.loop()[1]
+(('a', 'b', 1), ('b', 'a', 0))
+>>> desk = Desk("task a first 7 = a @ 1 + 1\\ntask b first 0 = a * 2 + b @ 1\\nwait a b 1")
+>>> [desk.execute(line) for line in ("cells", "matching", "share 1", "price", "shift a b", "covers", "values 3")]
+[['2'], ['a a 1', 'b b 1'], ['1'], ['2 3'], ['1'], ['a b 0', 'b a 1'], ['a 8 9 10', 'b 16 34 54']]
+>>> [desk.execute(line) for line in ("cuts on", "cells", "matching", " strike  wait a b 1", "cells", "strike task a", "undo", "wait b c 1")]
+[['done'], ['3'], ['a b 1', 'b a 2'], ['done'], ['none'], ['refused Nothing'], ['done'], ['refused NoTask']]
+>>> try:
+...     desk.execute("share")
+... except NoCommand as error:
+...     print(error.line)
+share
 """
 
 ALL = {"stage 1": STAGE_1, "stage 2": STAGE_2, "stage 3": STAGE_3, "stage 4": STAGE_4, "stage 5": STAGE_5,
-       "stage 6": STAGE_6, "stage 7": STAGE_7, "stage 8": STAGE_8, "stage 9": STAGE_9, "rings": STAGE_10_RINGS}
+       "stage 6": STAGE_6, "stage 7": STAGE_7, "stage 8": STAGE_8, "stage 9": STAGE_9, "stage 10": STAGE_10,
+       "stage 11": STAGE_11, "stage 12": STAGE_12, "stage 13": STAGE_13, "stage 14": STAGE_14, "stage 15": STAGE_15}

@@ -1,4 +1,4 @@
-"""All the examples of the document for the modules that are there, as they stand."""
+"""All the examples of the document, as they stand; and those of README.md."""
 
 import doctest
 import pathlib

@@ -56,6 +56,32 @@ FUNCTIONS = {
               "prices(loop, worths, m, is_cut) stair(loop, worths, m, is_cut)",
     "shares": "corner_keeping(loop, worths, cells, is_cut) is_best(loop, worths, m, is_cut, keeping, prices) "
               "keeping_with(loop, worths, m, n, is_cut) share_of(worths, keeping)",
+    "machine": "code_of(loop, rings) code_text(code) run_code(code, run) run_keeping(loop, keeping, run)",
+    "windows": "are_chains(loop, rounds, is_cut, thing) are_window_prices(loop, worths, rounds, is_cut, thing) "
+               "cells_in(loop, rounds, is_cut) chains_in(loop, rounds, is_cut) counting(loop, rounds) "
+               "crowd_in(loop, rounds, is_cut) from_rounds(loop, is_cut) is_crowd_in(loop, rounds, is_cut, thing) "
+               "is_turn_in(loop, rounds, one, other, is_cut) kept_in(loop, worths, rounds, m, is_cut) "
+               "most_kept_in(loop, worths, rounds, m, is_cut) window_price_sum(prices, m) "
+               "window_prices(loop, worths, rounds, m, is_cut)",
+    "cuts": "cut_everywhere(loop, lot, run) fewest_for(loop, lot) first_wrong(loop, keeping, cut_run) "
+            "free_to_cut(loop) is_of_lot(loop, lot, thing) is_right_for(loop, lot, keeping) "
+            "played(loop, keeping, cut_run) price_of_cuts(loop) shifts_for(loop, lot) "
+            "wrong_cut_run(loop, lot, keeping)",
+    "covers": "covers(loop) least_waits(loop) needless_waits(loop) parting_run(one, other) runs_within(one, other) "
+              "same_runs(one, other) struck(loop) with_waits(loop, waits)",
+    "saved": "best_wait(loop, most) cells_with(loop, wait) fewest_waits(loop, m, most) loop_with(loop, wait) "
+             "savings(loop, most)",
+    "logs": "everybody_falls(hall) log_text(lines) reopened(loop, keeping, text) whole_lines(text)",
+    "drawings": "keeping_text(loop, keeping) memory_line(loop, keeping, run) read_keeping(loop, text) "
+                "run_lines(loop, keeping, run)",
+}
+
+CLASSES = {
+    "hall": "Hall(loop, keeping) ask(worker) cells() cut_run() done(worker, value) fall(worker, value) hands() lines() "
+            "marks() slow() twin()",
+    "kept": "Kept(loop) cells() changes() is_cut() loop() matching() put_task(task) put_wait(wait) set_cut(is_cut) "
+            "share(m) strike_needless() strike_task(name) strike_wait(wait) twin() undo() weigh(name, worth) worths()",
+    "desk": "Desk(text) execute(line) kept()",
 }
 
 ERRORS = "Dead(ring) NoCommand(line) NoTask(name) NoText(place) Nothing() TooMany(most) Unlike(step) Wrong(place)"
@@ -80,6 +106,23 @@ class Interface(unittest.TestCase):
                 self.assertEqual([one.name for one in parameters], arguments, name)
                 self.assertTrue(all(one.kind is one.POSITIONAL_OR_KEYWORD for one in parameters), name)
                 self.assertTrue(all(one.default is one.empty for one in parameters), name)
+
+    def test_classes(self):
+        for file, text in CLASSES.items():
+            (name, arguments), *methods = told(text)
+            module = importlib.import_module("unwaited." + file)
+            tree = ast.parse((PACKAGE / (file + ".py")).read_text())
+            own = [node for node in tree.body if isinstance(node, ast.ClassDef) and node.name == name]
+            defined = {node.name for node in own[0].body if isinstance(node, ast.FunctionDef)}
+            for method, parameters in [("__init__", arguments), *methods]:
+                self.assertIn(method, defined, name)
+                known = inspect.signature(getattr(getattr(module, name), method)).parameters.values()
+                self.assertEqual([one.name for one in known], ["self", *parameters], method)
+                self.assertTrue(all(one.default is one.empty for one in known), method)
+
+    def test_every_module(self):
+        files = {path.stem for path in PACKAGE.glob("*.py")}
+        self.assertEqual(files, {*FUNCTIONS, *CLASSES, "errors", "__init__"})
 
     def test_errors(self):
         module = importlib.import_module("unwaited.errors")

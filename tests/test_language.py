@@ -11,18 +11,19 @@ import warnings
 
 PACKAGE = pathlib.Path(__file__).resolve().parent.parent / "unwaited"
 ORDER = ["errors", "fractions", "forms", "expressions", "looptexts", "meanings", "arcs", "sums", "paths", "runs",
-         "beats", "turns", "losing", "keepings", "judged", "matchings", "crowds", "rings", "stairs", "shares"]
-FROM_PYTHON = {"math": {"gcd", "lcm"}, "itertools": {"combinations"}}
+         "beats", "turns", "losing", "keepings", "judged", "matchings", "crowds", "rings", "stairs", "shares", "machine",
+         "windows", "cuts", "covers", "saved", "hall", "logs", "drawings", "kept", "desk"]
+FROM_PYTHON = {"math": {"gcd", "lcm"}, "itertools": {"combinations"}, "heapq": {"heappop", "heappush"}}
 OF_PYTHON = {name for name in dir(builtins) if name != "_"}
 STATEMENTS = (ast.Assign, ast.AugAssign, ast.If, ast.While, ast.For, ast.Return, ast.Break, ast.Continue, ast.Raise,
-              ast.Try, ast.Expr, ast.FunctionDef, ast.ClassDef, ast.ImportFrom)
+              ast.Try, ast.Expr, ast.FunctionDef, ast.ClassDef, ast.ImportFrom, ast.Delete)
 EXPRESSIONS = (ast.BoolOp, ast.BinOp, ast.UnaryOp, ast.IfExp, ast.Dict, ast.ListComp, ast.DictComp, ast.Compare,
                ast.Call, ast.JoinedStr, ast.FormattedValue, ast.Constant, ast.Attribute, ast.Subscript, ast.Starred,
                ast.Name, ast.List, ast.Tuple, ast.Slice)
 BUILTINS = {"len", "range", "enumerate", "zip", "min", "max", "sum", "abs", "sorted", "reversed", "int", "str", "bool",
             "list", "tuple", "dict", "set", "isinstance", "any", "all", "divmod", "ValueError"}
 METHODS = {"append", "clear", "copy", "count", "endswith", "extend", "find", "get", "index", "insert", "isdigit",
-           "isascii", "items", "join", "keys", "lower", "lstrip", "partition", "pop", "remove", "replace", "rfind",
+           "isascii", "isupper", "items", "join", "keys", "lower", "lstrip", "partition", "pop", "remove", "replace", "rfind",
            "rstrip", "setdefault", "split", "startswith", "strip", "update", "upper", "values", "bit_length"}
 BARRED = {"register", "mro", "elements", "open", "input", "law", "version_info", "with_traceback", "add_note", "type",
           "typing", "enum", "Enum", "Flag", "Generic", "Protocol", "ABC", "namedtuple", "dataclass", "attrgetter",
@@ -91,7 +92,10 @@ class Language(unittest.TestCase):
                 if isinstance(node, ast.Constant):
                     self.assertNotIsInstance(node.value, (float, complex, bytes))
                 if isinstance(node, ast.ExceptHandler):
-                    self.assertNotIn(node.type.id, OF_PYTHON, path.name)
+                    for one in getattr(node.type, "elts", [node.type]):
+                        self.assertNotIn(one.id, OF_PYTHON, path.name)
+                if isinstance(node, ast.Delete):
+                    self.assertTrue(all(isinstance(one, ast.Subscript) for one in node.targets), path.name)
 
     def test_functions(self):
         for path, tree in trees():
@@ -145,9 +149,43 @@ class Language(unittest.TestCase):
         for path, tree in trees():
             for node in tree.body:
                 right = isinstance(node, (ast.ImportFrom, ast.FunctionDef, ast.ClassDef)) or \
-                    isinstance(node, ast.Assign) and len(node.targets) == 1 and ast.literal_eval(node.value) is not None \
+                    isinstance(node, ast.Assign) and len(node.targets) == 1 and self.is_plain(tree, node) \
                     or isinstance(node, ast.Expr) and isinstance(node.value, ast.Constant)
                 self.assertTrue(right, (path.name, node.lineno))
+
+    def is_plain(self, tree, node):
+        """Whether a plain value is assigned, or a table of functions that are defined above."""
+        if isinstance(node.value, ast.Dict) and isinstance(node.value.values[0], ast.Name):
+            above = {one.name for one in tree.body if isinstance(one, ast.FunctionDef) and one.lineno < node.lineno}
+            return {one.id for one in node.value.values} <= above
+        return ast.literal_eval(node.value) is not None
+
+    def test_attributes_are_no_methods(self):
+        methods = {part.name for _, tree in trees() for node in ast.walk(tree) if isinstance(node, ast.ClassDef)
+                   for part in node.body if isinstance(part, ast.FunctionDef)}
+        for path, tree in trees():
+            for node in ast.walk(tree):
+                if isinstance(node, ast.Attribute) and isinstance(node.ctx, ast.Store):
+                    self.assertNotIn(node.attr, methods | METHODS, path.name)
+
+    def test_own_classes_are_called_alone(self):
+        # Not passed on, nor kept: called, a base class, asked for by isinstance, raised or caught.
+        for path, tree in trees():
+            classes = {node.name for _, other in trees() for node in other.body if isinstance(node, ast.ClassDef)}
+            right = set()
+            for node in ast.walk(tree):
+                if isinstance(node, ast.Call):
+                    right.add(id(node.func))
+                    right.update(id(one) for one in node.args[1:] if getattr(node.func, "id", "") == "isinstance")
+                elif isinstance(node, ast.ClassDef):
+                    right.update(id(one) for one in node.bases)
+                elif isinstance(node, ast.ExceptHandler):
+                    right.update(id(one) for one in getattr(node.type, "elts", [node.type]))
+                elif isinstance(node, ast.Attribute) and node.attr == "__init__":
+                    right.add(id(node.value))
+            for node in ast.walk(tree):
+                if isinstance(node, ast.Name) and node.id in classes:
+                    self.assertTrue(id(node) in right, (path.name, node.lineno))
 
     def test_strings(self):
         for path, tree in trees():

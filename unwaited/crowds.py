@@ -2,7 +2,7 @@
 
 from unwaited.forms import is_ascending, is_step, read_names
 from unwaited.matchings import numbers
-from unwaited.turns import Turns
+from unwaited.turns import Turns, lot_by
 
 
 def is_crowd(loop, is_cut, thing):
@@ -34,7 +34,7 @@ def growing_crowd(loop, name, many):
 def crowd_clash(loop, is_cut, steps):
     """Returns the least couple (one, other) of these ascending STEPS of READ tasks such that one has its TURN ahead
     of other, None if there is none."""
-    turns = Turns(loop, is_cut)
+    turns = Turns(loop, lot_by(loop, is_cut))
     for a, i in steps:
         for b, j in steps:
             if turns.has_turn(a, b, j - i):

@@ -5,7 +5,7 @@ from unwaited.forms import is_step, is_tuple_of, names_in_order, names_of, reads
 from unwaited.keepings import cell_of, cells_many, kept_steps
 from unwaited.losing import length_of, run_of, ways_of
 from unwaited.paths import before_along
-from unwaited.turns import Turns
+from unwaited.turns import Turns, lot_by
 
 
 def steps_by_cell(turns, keeping):
@@ -33,13 +33,17 @@ def links_of(period, lists):
     return list(links)
 
 
-def turn_lists(loop, keeping, is_cut):
-    """Returns the TURN LISTS of a KEEPING, None if there are none."""
-    turns = Turns(loop, is_cut)
+def turn_lists_by(turns, keeping):
+    """Returns the TURN LISTS of a KEEPING by these TURNS, None if there are none."""
     lists = steps_by_cell(turns, keeping)
     if not all([turns.has_turn(a, b, s) for a, b, s in links_of(keeping[0], lists)]):
         return None
     return tuple([tuple(steps) for steps in lists])
+
+
+def turn_lists(loop, keeping, is_cut):
+    """Returns the TURN LISTS of a KEEPING, None if there are none."""
+    return turn_lists_by(Turns(loop, lot_by(loop, is_cut)), keeping)
 
 
 def are_turn_lists(loop, keeping, is_cut, thing):
@@ -74,15 +78,13 @@ def is_clash(loop, keeping, is_cut, thing):
         return False
     if (one[1], one[0]) >= (other[1], other[0]):
         return False
-    return are_clashing(Turns(loop, is_cut), keeping, one, other)
+    return are_clashing(Turns(loop, lot_by(loop, is_cut)), keeping, one, other)
 
 
-def first_clash(loop, keeping, is_cut):
-    """Returns the CLASH with the least round of other, then name of other, round of one, name of one; None if the
-    KEEPING is RIGHT."""
-    if is_right(loop, keeping, is_cut):
+def first_clash_by(turns, keeping):
+    """Returns what first_clash does, by these TURNS."""
+    if turn_lists_by(turns, keeping) is not None:
         return None
-    turns = Turns(loop, is_cut)
     once = list(kept_steps(keeping))
     steps = once + [(name, at + keeping[0]) for name, at in once]
     for place, other in enumerate(steps):
@@ -90,6 +92,12 @@ def first_clash(loop, keeping, is_cut):
             if are_clashing(turns, keeping, one, other):
                 return (one, other)
     return None
+
+
+def first_clash(loop, keeping, is_cut):
+    """Returns the CLASH with the least round of other, then name of other, round of one, name of one; None if the
+    KEEPING is RIGHT."""
+    return first_clash_by(Turns(loop, lot_by(loop, is_cut)), keeping)
 
 
 def ringed_names(loop):
@@ -131,12 +139,13 @@ def closed_rows(loop, most, rounds):
 
 
 class Shortest:
-    """The search for the shortest RUN in which something is lost. best is the number of its STEPS, way the tuple
-    (x, y, reader) of what comes to it: y has written to the CELL of x when reader reads it."""
+    """The search for the shortest CUT RUN of a lot in which something is lost. best is the number of its items, way
+    the tuple (x, y, reader) of what comes to it: y has written to the CELL of x when reader reads it."""
 
-    def __init__(self, loop, keeping, best):
-        self.loop = loop
+    def __init__(self, loop, keeping, lot, best):
+        self.reads = {name: reads_of(body) for name, _, body in loop[0]}
         self.keeping = keeping
+        self.lot = lot
         self.best = best
         self.way = None
         self.places = {name: place for place, name in enumerate(names_in_order(loop))}
@@ -169,34 +178,42 @@ class Shortest:
             if many >= self.best:
                 break
             before_y = self.rows[name][at][1]
-            if not self.is_in((name, at), before_x) and not self.is_in(reader, before_y):
-                together = size + many_of(before_y & ~bits)
+            # Cut off, it may come a second time, and read what it has written itself.
+            is_again = reader == (name, at) and name in self.lot
+            if not self.is_in((name, at), before_x) and (is_again or not self.is_in(reader, before_y)):
+                together = size + (1 if is_again else many_of(before_y & ~bits))
                 if together < self.best:
                     self.best = together
                     self.way = (x, (name, at), reader)
 
     def ask_readers(self):
         """Looks for all that may be read."""
-        reads = {name: reads_of(body) for name, _, body in self.loop[0]}
         for size, name, at in self.steps:
             if size >= self.best:
                 break
-            for earlier, d in reads[name]:
+            for earlier, d in self.reads[name]:
                 if at >= d and cell_of(self.keeping, (earlier, at - d)) is not None:
                     self.ask_writers((earlier, at - d), (name, at))
+
+
+def shortest_way(loop, keeping, lot):
+    """Returns a way, as ways_of tells them, to a CUT RUN of the lot with as few items as possible whose last one finds
+    another STEP than it reads; None if the KEEPING is RIGHT in all of the lot."""
+    clash = first_clash_by(Turns(loop, lot), keeping)
+    if clash is None:
+        return None
+    ways = ways_of(loop, clash[0], clash[1], lot)
+    fewest = min([length_of(way) for way in ways])
+    search = Shortest(loop, keeping, lot, fewest)
+    search.ask_readers()
+    if search.way is None:
+        return [way for way in ways if length_of(way) == fewest][0]
+    x, y, reader = search.way
+    return (x, y, reader, before_along(arcs_by_later(loop), [y, reader]))
 
 
 def losing_run_of(loop, keeping):
     """Returns a RUN with as few STEPS as possible whose last STEP finds another STEP than it reads, None if the
     KEEPING is RIGHT."""
-    clash = first_clash(loop, keeping, False)
-    if clash is None:
-        return None
-    ways = ways_of(loop, clash[0], clash[1], False)
-    fewest = min([length_of(way) for way in ways])
-    search = Shortest(loop, keeping, fewest)
-    search.ask_readers()
-    if search.way is None:
-        return run_of(loop, [way for way in ways if length_of(way) == fewest][0], False)
-    x, y, reader = search.way
-    return run_of(loop, (x, y, reader, before_along(arcs_by_later(loop), [y, reader])), False)
+    way = shortest_way(loop, keeping, ())
+    return None if way is None else run_of(loop, way)

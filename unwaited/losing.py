@@ -4,11 +4,12 @@ from unwaited.arcs import arcs_by_later, readers_of
 from unwaited.forms import reads_of, task_of
 from unwaited.paths import before_along
 from unwaited.runs import is_cut_run, is_run, ordered
+from unwaited.turns import lot_by
 
 
-def ways_of(loop, one, other, is_cut):
+def ways_of(loop, one, other, lot):
     """Returns a list of tuples (x, y, reader, before): how one of two STEPS can be lost by the other one, y, when
-    reader comes to it; before is the dict of all that is BEFORE y or reader."""
+    reader comes to it; before is the dict of all that is BEFORE y or reader. Only tasks of the lot may be cut off."""
     arcs = arcs_by_later(loop)
     ways = []
     for x, y in [(one, other), (other, one)]:
@@ -17,7 +18,7 @@ def ways_of(loop, one, other, is_cut):
         before_y = before_along(arcs, [y])
         for name, d in readers_of(loop, x[0]):
             reader = (name, x[1] + d)
-            if reader not in before_y and (is_cut or reader != y):
+            if reader not in before_y and (reader != y or name in lot):
                 ways.append((x, y, reader, before_along(arcs, [y, reader])))
     return ways
 
@@ -28,27 +29,33 @@ def length_of(way):
     return len(before) + (1 if y in before else 2)
 
 
-def run_of(loop, way, is_cut):
-    """Returns the least of the shortest LOSING RUNS of a way."""
+def run_of(loop, way):
+    """Returns the least of the shortest RUNS of a way."""
     x, y, reader, before = way
-    run = ordered(loop, sorted(set([y, *before])), [(x, y)], ())
-    if not is_cut:
-        return (*run, reader)
+    return (*ordered(loop, sorted(set([y, *before])), [(x, y)], ()), reader)
+
+
+def cut_run_of(loop, way, lot):
+    """Returns the least of the shortest CUT RUNS of a way that are of the lot and end with True."""
+    _, y, _, before = way
+    run = run_of(loop, way)
     # What nothing behind it needs may be cut off, and False is less than True.
-    cut_run = [(step, step != y or y in before) for step in run]
-    return (*cut_run, (reader, True))
+    cut_run = [(step, step != y or y in before or y[0] not in lot) for step in run[:-1]]
+    return (*cut_run, (run[-1], True))
 
 
 def losing_length(loop, one, other, is_cut):
     """Returns how many items a LOSING RUN of two STEPS has at least, None if there is none."""
-    return min([length_of(way) for way in ways_of(loop, one, other, is_cut)], default=None)
+    return min([length_of(way) for way in ways_of(loop, one, other, lot_by(loop, is_cut))], default=None)
 
 
 def losing_run(loop, one, other, is_cut):
     """Returns the least of the shortest LOSING RUNS of two STEPS, None if there is none."""
-    ways = ways_of(loop, one, other, is_cut)
+    lot = lot_by(loop, is_cut)
+    ways = ways_of(loop, one, other, lot)
     fewest = min([length_of(way) for way in ways], default=None)
-    return min([run_of(loop, way, is_cut) for way in ways if length_of(way) == fewest], default=None)
+    shortest_ways = [way for way in ways if length_of(way) == fewest]
+    return min([cut_run_of(loop, way, lot) if is_cut else run_of(loop, way) for way in shortest_ways], default=None)
 
 
 def is_lost(loop, x, y, items):

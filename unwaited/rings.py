@@ -3,7 +3,7 @@
 from math import lcm
 
 from unwaited.forms import is_ascending, is_count, is_tuple_of, read_names
-from unwaited.turns import Turns, shifts
+from unwaited.turns import Turns, lot_by, shifts
 
 
 def circles_of(matching):
@@ -82,7 +82,7 @@ def are_right_rings(loop, is_cut, thing):
     # Place by place nothing is asked: in each one the same comes, only some rounds later. So sizes may be any.
     if not are_rings(loop, thing):
         return False
-    turns = Turns(loop, is_cut)
+    turns = Turns(loop, lot_by(loop, is_cut))
     return all([is_right_ring(turns, ring) for ring in thing])
 
 
@@ -117,7 +117,7 @@ def keeping_of_rings(loop, rings):
 
 def matching_of_rings(loop, rings, is_cut):
     """Returns the MATCHING of RINGS that are RIGHT: from each member to the one whose STEP is next in its place."""
-    turns = Turns(loop, is_cut)
+    turns = Turns(loop, lot_by(loop, is_cut))
     matching = {}
     for ring in rings:
         members = [name for name, _ in members_in_turn(turns, ring)]

@@ -3,18 +3,24 @@
 from math import lcm
 
 from unwaited.arcs import arcs_of, fewest_arcs, least_path, reached_from, readers_of
-from unwaited.forms import is_count, is_tuple_of, names_in_order, read_names
+from unwaited.forms import is_count, is_tuple_of, names_in_order, names_of, read_names
 from unwaited.paths import is_path, sum_of
 from unwaited.sums import Pictures, least_table
 
 NOW_AND_THEN = 64
 
 
-class Turns:
-    """What TURNS there are in a LOOP, STRICT or not. What is found on the way is kept."""
+def lot_by(loop, is_cut):
+    """Returns the names of the tasks that may be cut off, by is_cut: all or none."""
+    return names_of(loop) if is_cut else ()
 
-    def __init__(self, loop, is_cut):
-        self.is_cut = is_cut
+
+class Turns:
+    """What TURNS there are in a LOOP; those ahead of STEPS of a lot of names are STRICT. What is found on the way
+    is kept."""
+
+    def __init__(self, loop, lot):
+        self.lot = lot
         self.names = read_names(loop)
         self.readers = {name: readers_of(loop, name) for name in self.names}
         # The LOOP backwards: so one row of pictures for a task tells the SUMS to it from all others.
@@ -41,7 +47,7 @@ class Turns:
             for reader, d in self.readers[a]:
                 if b in self.reached[reader]:
                     pictures = self.pictures_between(reader, b)
-                    sights.append((pictures, pictures.places[reader], d, self.is_cut and reader == b))
+                    sights.append((pictures, pictures.places[reader], d, reader == b and b in self.lot))
             self.sights[(a, b)] = sights if len(sights) == len(self.readers[a]) else None
         return self.sights[(a, b)]
 
@@ -99,12 +105,12 @@ class Turns:
 
 def is_turn(loop, one, other, is_cut):
     """Tells whether a STEP has its TURN ahead of another one."""
-    return Turns(loop, is_cut).has_turn(one[0], other[0], other[1] - one[1])
+    return Turns(loop, lot_by(loop, is_cut)).has_turn(one[0], other[0], other[1] - one[1])
 
 
 def turn_table(loop, a, b, is_cut):
     """Returns the TABLE of all s such that (a, i) has its TURN ahead of (b, i + s)."""
-    turns = Turns(loop, is_cut)
+    turns = Turns(loop, lot_by(loop, is_cut))
     if turns.sights_from(a, b) is None:
         return ((), 0, 1, ())
     begin, modulus = turns.again(a, b)
@@ -115,12 +121,12 @@ def turn_table(loop, a, b, is_cut):
 
 def shift(loop, a, b, is_cut):
     """Returns the SHIFT from a to b, None if there is none."""
-    return Turns(loop, is_cut).least_shift(a, b)
+    return Turns(loop, lot_by(loop, is_cut)).least_shift(a, b)
 
 
 def shifts(loop, is_cut):
     """Returns the dict from all couples (a, b) that have a SHIFT to it."""
-    return Turns(loop, is_cut).all_shifts()
+    return Turns(loop, lot_by(loop, is_cut)).all_shifts()
 
 
 def leads_back(loop, name):
