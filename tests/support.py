@@ -4,6 +4,9 @@ import copy
 import random
 
 from unwaited import errors
+from unwaited.desk import Desk
+from unwaited.hall import Hall
+from unwaited.kept import Kept
 
 
 def loop_of(*lines):
@@ -160,7 +163,9 @@ ANY = [None, True, False, 0, 1, -1, 2, 9999, 10000, 10 ** 40 - 1, -10 ** 39, "",
        ("if", ("round",), ("round",), ("round",)), ("if", ("round",), ("round",)), ("two", [], (), {}),
        ("two", ("+",), ("round",), ("round",)), ([], {}), ({}, []), ((("a", 0, ("round",)),), ()),
        ([("a", 0, ("round",))], ()), ((["a", 0, ("round",)],), ()), errors.Nothing(), errors.Wrong(0), errors.Wrong,
-       errors.NoText((0, 0)), [errors.Dead(())], (errors.NoTask("a"), {}), [[[[[[[[[[[]]]]]]]]]]]]
+       errors.NoText((0, 0)), [errors.Dead(())], (errors.NoTask("a"), {}), [[[[[[[[[[[]]]]]]]]]]], Hall(ALONE, (1, {})),
+       Kept(ALONE), Desk("task a first 0 = round"), (Hall(ALONE, (1, {})), Kept(ALONE)), ("a", Kept(ALONE)),
+       (Kept(ALONE),), {"a": Hall(ALONE, (1, {}))}, ((("a", 0), Kept(ALONE)),), ("two", Kept(ALONE), 0, 0), (1, Kept(ALONE))]
 
 
 def mangled(thing):
