@@ -4,7 +4,7 @@ import itertools
 import unittest
 
 from slow import Slow, random_keeping
-from support import ALONE, ANY, BELT, PAIR, check_truth, check_unchanged, loop_of, mangled, random_live_loop, rng_of
+from support import ALONE, ANY, PAIR, check_truth, check_unchanged, loop_of, mangled, random_live_loop, rng_of
 from support import window
 from unwaited.judged import are_turn_lists, closed_rows, first_clash, is_clash, is_right, losing_run_of, turn_lists
 from unwaited.keepings import cells_many, first_lost, longer

@@ -116,6 +116,14 @@ class Savings(unittest.TestCase):
         self.assertRaises(Nothing, best_wait, tight, 4)
         self.assertRaises(Nothing, fewest_waits, tight, 0, 1)
 
+    def test_best_waits(self):
+        # Fewer than some; fewer than none, the first one found not being the best.
+        self.assertEqual([best_wait(CHAIN, 1), cells_with(CHAIN, best_wait(CHAIN, 1))], [("a", "c", 1), 1])
+        self.assertEqual(best_wait(BELT, 3), min(savings(BELT, 3), key=lambda wait: (cells_with(BELT, wait), wait)))
+        late = loop_of(("a", []), ("b", []), ("z", [("a", 2)]), ("b", "z", 1))
+        told = savings(late, 2)
+        self.assertEqual([told["a", "b", 0], told["a", "z", 0], best_wait(late, 2)], [3, 2, ("a", "z", 0)])
+
     def test_ten_tasks(self):
         rng = rng_of(343)
         while True:
@@ -171,6 +179,9 @@ class Fewest(unittest.TestCase):
         fewer = loop_of(("a", []), ("b", [("a", 0)]), ("c", [("a", 0)]))
         self.assertEqual(len(savings(fewer, 1)), 13)
         self.assertEqual(fewest_waits(fewer, 1, 1), (("a", "b", 1), ("a", "c", 1)))
+        # Without cuts: each value of a may stand where its last reader, a itself, reads it.
+        own = loop_of(("a", [("a", 1)]), ("b", [("a", 0)]), ("c", [("a", 0)]))
+        self.assertEqual(fewest_waits(own, 1, 1), (("a", "b", 1), ("a", "c", 1)))
         # One is enough here, though there are more than 24.
         self.assertEqual(fewest_waits(loop_of(("a", []), ("b", [("a", 0)]), ("c", [])), 1, 8), (("a", "b", 1),))
 

@@ -349,6 +349,22 @@ class Told(unittest.TestCase):
                         check_truth(self, are_window_prices(slow.loop, worths, rounds, is_cut, paper),
                                     self.are_prices(paper, worths, slowly), paper)
 
+    def test_any_prices(self):
+        told = {False: 0, True: 0}
+        for rng, slow, rounds, is_cut, slowly in some_windows(322, 600, 4, 3):
+            if 0 < len(slowly.steps) < 6:
+                worths = {name: rng.randint(0, 2) for name in slow.read_names}
+                paper = (rng.randint(0, 2), {step: rng.randint(0, 3) for step in slowly.steps},
+                         {step: rng.randint(0, 3) for step in slowly.steps})
+                right = self.are_prices(paper, worths, slowly)
+                check_truth(self, are_window_prices(slow.loop, worths, rounds, is_cut, paper), right, (slow.loop, paper))
+                told[right] += 1
+        self.assertGreater(min(told.values()), 30)
+        # The height of (b, 0) is beyond what a CELL costs; so is what (a, 0) gains.
+        paper = (1, {("a", 0): 0, ("b", 0): 9}, {("a", 0): 1, ("b", 0): 5})
+        self.assertIs(are_window_prices(BELT, {"a": 1, "b": 1}, 1, False, paper), False)
+        self.assertIs(are_window_prices(BELT, {"a": 1, "b": 1}, 1, False, (2, *paper[1:])), True)
+
     def test_keys_in_any_order(self):
         paper = window_prices(BELT, {"a": 1, "b": 1}, 6, 3, False)
         turned = tuple([paper[0]] + [dict(reversed(part.items())) for part in paper[1:]])

@@ -28,6 +28,15 @@ def readers_of(loop, name):
     return tuple([(later, d) for later, _, body in loop[0] for earlier, d in reads_of(body) if earlier == name])
 
 
+def readers_by_name(loop):
+    """Returns the dict from the names of all READ tasks to the ascending tuples of their READERS."""
+    readers = {}
+    for later, _, body in loop[0]:
+        for earlier, d in reads_of(body):
+            readers.setdefault(earlier, []).append((later, d))
+    return {name: tuple(readers[name]) for name in sorted(list(readers))}
+
+
 def arcs_by_earlier(loop):
     """Returns the dict from all names to the ascending lists of the ARCS from them."""
     arcs = {name: [] for name in names_of(loop)}
@@ -128,9 +137,9 @@ def dead_ring(loop):
     return least_ring([arc for arc in arcs_of(loop) if arc[2] == 0])
 
 
-def reached_from(loop, name):
-    """Returns the dict from each task to which PATHS lead from this one, itself among them, to the SUM of one."""
-    arcs = arcs_by_earlier(loop)
+def reached_along(arcs, name):
+    """Returns the dict from each task to which PATHS lead from this one, itself among them, to the SUM of one; arcs
+    are what arcs_by_earlier returns."""
     sums = {name: 0}
     left = [name]
     while left:
@@ -142,9 +151,15 @@ def reached_from(loop, name):
     return sums
 
 
+def reached_from(loop, name):
+    """Returns the dict from each task to which PATHS lead from this one, itself among them, to the SUM of one."""
+    return reached_along(arcs_by_earlier(loop), name)
+
+
 def lots_of(loop):
     """Returns the ascending tuple of all LOTS."""
-    reached = {name: reached_from(loop, name) for name in names_of(loop)}
+    arcs = arcs_by_earlier(loop)
+    reached = {name: reached_along(arcs, name) for name in names_of(loop)}
     lots = []
     for name, others in reached.items():
         lots.append(tuple([other for other in names_of(loop) if other in others and name in reached[other]]))

@@ -14,7 +14,7 @@ def is_cover(loop, sums, arc):
     for first in arcs_from(loop, earlier):
         _, middle, e = first
         # Behind the ARC itself only () would lead on to later: as the LOOP is LIVE, nothing else has the SUM 0.
-        if first != arc and e <= d and d - e in sums[middle][later]:
+        if first != arc and d - e in sums[middle][later]:
             return False
     return True
 

@@ -31,6 +31,12 @@ def cells_with(loop, wait):
     return fewest_cells(loop_with(loop, wait), False)
 
 
+def follows_from(idle, d, rings):
+    """Tells whether a WAIT with d follows from PATHS, or from a WAIT between the same tasks that saves nothing, so that
+    it saves nothing, either; idle are the d of such, rings the SUMS of PATHS from one of the tasks to itself."""
+    return any([d - less in rings for less in idle])
+
+
 def savings(loop, most):
     """Returns the dict from all WAITS with d at most most that the loop does not have, and with which it stays LIVE,
     to the fewest CELLS with them, None if there are none."""
@@ -40,13 +46,15 @@ def savings(loop, most):
     cells = {}
     for later in names:
         for earlier in names:
+            idle = list(sums[earlier][later])
             for d in range(most + 1):
                 wait = (later, earlier, d)
                 if wait in loop[1] or (d == 0 and 0 in sums[later][earlier]):
                     continue
-                # What follows from PATHS takes no RUN away, so it saves nothing.
-                follows = d in sums[earlier][later]
+                follows = follows_from(idle, d, sums[earlier][earlier] + sums[later][later])
                 cells[wait] = had if follows else fewest_cells(with_more(loop, [wait]), False)
+                if cells[wait] == had:
+                    idle.append(d)
     return cells
 
 

@@ -2,7 +2,8 @@
 
 from math import lcm
 
-from unwaited.arcs import arcs_of, fewest_arcs, least_path, reached_from, readers_of
+from unwaited.arcs import arcs_by_earlier, arcs_of, fewest_arcs, least_path, reached_along, reached_from
+from unwaited.arcs import readers_by_name, readers_of
 from unwaited.forms import is_count, is_tuple_of, names_in_order, names_of, read_names
 from unwaited.paths import is_path, sum_of
 from unwaited.sums import Pictures, least_table
@@ -21,12 +22,13 @@ class Turns:
 
     def __init__(self, loop, lot):
         self.lot = lot
-        self.names = read_names(loop)
-        self.readers = {name: readers_of(loop, name) for name in self.names}
+        self.readers = readers_by_name(loop)
+        self.names = list(self.readers)
         # The LOOP backwards: so one row of pictures for a task tells the SUMS to it from all others.
         self.turned = [(later, earlier, d) for earlier, later, d in arcs_of(loop)]
         self.order = names_in_order(loop)[::-1]
-        self.reached = {name: reached_from(loop, name) for name in self.order}
+        arcs = arcs_by_earlier(loop)
+        self.reached = {name: reached_along(arcs, name) for name in self.order}
         self.pictures = {}
         self.sights = {}
 
@@ -83,9 +85,11 @@ class Turns:
 
     def least_shift(self, a, b):
         """Returns the SHIFT from a to b, None if there is none."""
-        if self.sights_from(a, b) is None:
+        sights = self.sights_from(a, b)
+        if sights is None:
             return None
-        s = 0
+        # No reader is BEFORE what stands in an earlier round.
+        s = max([d for _, _, d, _ in sights])
         while not self.has_turn(a, b, s):
             s += 1
             if s % NOW_AND_THEN == 0 and self.is_past(a, b, s):

@@ -264,7 +264,7 @@ class Flow:
             for other in nearest:
                 targets[other] = True
                 self.lay_arc(2 * place + 1, 2 * self.places[other], 0, None)
-            # CHAINS may go through STEPS that are in others already: so from end to end all can be come to.
+            # Ways may lead through what other CHAINS have taken: so ends alone need arcs to the source or the sink.
             if len(nearest) == 0:
                 self.lay_arc(2 * place + 1, self.sink, 0, None)
             if number not in targets:
@@ -329,8 +329,8 @@ class Flow:
         while node != self.sink:
             arc = [one for one in self.arcs[node] if one % 2 == 0 and used[one + 1] > 0][0]
             used[arc + 1] -= 1
-            if node % 2 == 0 and node != self.source and arc == 4 * (node // 2):
-                steps.append(self.counted.steps[self.counted.ranked[node // 2]])
+            if arc < 2 * self.source and arc % 4 == 0:
+                steps.append(self.counted.steps[self.counted.ranked[arc // 4]])
             node = self.targets[arc]
         return tuple(steps)
 
