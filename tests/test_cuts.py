@@ -241,6 +241,20 @@ class Right(unittest.TestCase):
                         many += len(run) == length
         self.assertGreater(many, 50)
 
+    def test_a_later_step_that_reads_itself(self):
+        # Shorter by one item than what the first two STEPS that clash come to.
+        cycle = [("a", [("b", 0)]), ("b", [("a", 2)])]
+        for loop, lot, keeping, many in (
+                (loop_of(*cycle), ("a", "b"), (2, {"a": (0, 0), "b": (None, 0)}), 3),
+                (loop_of(*cycle, ("b", "b", 2)), ("a", "b"), (3, {"a": (2, 2, 1), "b": (None, 0, 2)}), 4),
+                (loop_of(("a", [("a", 2)]), ("b", [("a", 0), ("b", 2)])), ("b",), (1, {"a": (None,), "b": (0,)}), 5),
+                (loop_of(("a", [("b", 0)]), ("b", []), ("c", [("a", 0), ("b", 1), ("c", 2)]), ("b", "c", 2)), ("c",),
+                 (3, {"a": (None, 0, None), "b": (None, 1, 1), "c": (0, 0, 1)}), 5)):
+            run = wrong_cut_run(loop, lot, keeping)
+            self.assertEqual([len(run), fewest_items(Slow(loop), keeping, lot, 12)], [many, many])
+            self.assertEqual(first_wrong(loop, keeping, run), many - 1)
+            self.assertEqual([run[-2][0], run[-2][1]], [run[-1][0], False])
+
     def test_periods_to_12(self):
         rng = rng_of(329)
         for _ in range(25):

@@ -1,17 +1,22 @@
 """COVERS: the ARCS from which all others follow; WAITS that say nothing of their own; and LOOPS with the same RUNS."""
 
-from unwaited.arcs import arcs_from, arcs_of, readers_of
+from unwaited.arcs import arcs_by_earlier, arcs_of, readers_by_name
 from unwaited.errors import Nothing
 from unwaited.forms import names_of
-from unwaited.paths import is_before
 from unwaited.runs import least_run
 from unwaited.sums import reach
 
 
-def is_cover(loop, sums, arc):
-    """Tells whether an ARC is a COVER, sums being the dict from all names to their REACHES."""
+def sums_from_all(loop, arcs):
+    """Returns the dict from all names to their REACHES, as far as some ARCS lead."""
+    most = max([d for _, _, d in arcs], default=0)
+    return {name: reach(loop, name, most) for name in names_of(loop)}
+
+
+def is_cover(arcs, sums, arc):
+    """Tells whether an ARC is a COVER, arcs being what arcs_by_earlier returns, sums what sums_from_all does."""
     earlier, later, d = arc
-    for first in arcs_from(loop, earlier):
+    for first in arcs[earlier]:
         _, middle, e = first
         # Behind the ARC itself only () would lead on to later: as the LOOP is LIVE, nothing else has the SUM 0.
         if first != arc and d - e in sums[middle][later]:
@@ -21,17 +26,17 @@ def is_cover(loop, sums, arc):
 
 def covers(loop):
     """Returns the ascending tuple of the COVERS."""
-    arcs = arcs_of(loop)
-    most = max([d for _, _, d in arcs], default=0)
-    sums = {name: reach(loop, name, most) for name in names_of(loop)}
-    return tuple([arc for arc in arcs if is_cover(loop, sums, arc)])
+    sums = sums_from_all(loop, arcs_of(loop))
+    arcs = arcs_by_earlier(loop)
+    return tuple([arc for arc in arcs_of(loop) if is_cover(arcs, sums, arc)])
 
 
 def needless_waits(loop):
     """Returns the ascending tuple of the NEEDLESS WAITS."""
     told = covers(loop)
+    readers = readers_by_name(loop)
     return tuple([(later, earlier, d) for later, earlier, d in loop[1]
-                  if (earlier, later, d) not in told or (later, d) in readers_of(loop, earlier)])
+                  if (earlier, later, d) not in told or (later, d) in readers.get(earlier, ())])
 
 
 def least_waits(loop):
@@ -53,7 +58,9 @@ def struck(loop):
 def parting_steps(one, other):
     """Returns the list of the STEPS (b, d) for which other has an ARC (a, b, d), but (a, 0) is not BEFORE them in
     one."""
-    return [(later, d) for earlier, later, d in arcs_of(other) if not is_before(one, (earlier, 0), (later, d))]
+    arcs = arcs_of(other)
+    sums = sums_from_all(one, arcs)
+    return [(later, d) for earlier, later, d in arcs if d not in sums[earlier][later]]
 
 
 def runs_within(one, other):

@@ -57,7 +57,7 @@ def shifts_for(loop, lot):
     """Returns the dict from all couples of names of READ tasks to their SHIFT, None if there is none; those to tasks
     of the lot are by STRICT TURNS."""
     turns = Turns(loop, lot)
-    return {(a, b): turns.least_shift(a, b) for a in read_names(loop) for b in read_names(loop)}
+    return {(a, b): turns.least_shift(a, b) for a in turns.names for b in turns.names}
 
 
 def fewest_for(loop, lot):

@@ -2,7 +2,7 @@
 
 from unwaited.errors import NoText, Wrong
 from unwaited.expressions import is_number_word, words_of
-from unwaited.forms import is_live_loop, read_names, reads_of, task_of
+from unwaited.forms import is_live_loop, read_names, reads_of
 from unwaited.keepings import cell_of, cells_many, found
 from unwaited.looptexts import means_nothing
 
@@ -85,11 +85,11 @@ def read_word(keeping, step, finds):
     return step_word(finds[step]) + ("" if finds[step] == step else "!")
 
 
-def run_line(loop, keeping, step, finds):
-    """Returns the words, in one string, for a STEP of a RUN."""
+def run_line(reads, keeping, step, finds):
+    """Returns the words, in one string, for a STEP of a RUN with these reads; finds as for read_word."""
     name, at = step
     words = [name, str(at), "reads"]
-    for earlier, d in reads_of(task_of(loop, name)[2]):
+    for earlier, d in reads:
         words.append(read_word(keeping, (earlier, at - d), finds))
     if name not in keeping[1]:
         place = "none"
@@ -102,10 +102,11 @@ def run_line(loop, keeping, step, finds):
 
 def run_lines(loop, keeping, run):
     """Returns a tuple with a string for each STEP of a RUN: what it reads where, and where it writes."""
+    reads = {name: reads_of(body) for name, _, body in loop[0]}
     lines = []
     for step, finds in found(loop, keeping, run):
         there = {(name, step[1] - d): other for name, d, other in finds}
-        lines.append(run_line(loop, keeping, step, there))
+        lines.append(run_line(reads[step[0]], keeping, step, there))
     return tuple(lines)
 
 
@@ -113,6 +114,6 @@ def memory_line(loop, keeping, run):
     """Returns a string with a word for each CELL: the STEP that has written there last, or a dot."""
     words = ["."] * cells_many(keeping)
     for step in run:
-        if step[0] in read_names(loop) and cell_of(keeping, step) is not None:
+        if step[0] in keeping[1] and cell_of(keeping, step) is not None:
             words[cell_of(keeping, step)] = step_word(step)
     return " ".join(words)

@@ -1,8 +1,8 @@
 """CODE: what tasks do, with RINGS, as rows of small deeds; and what STEPS come to in CELLS."""
 
-from unwaited.forms import GREATEST_VALUE, parts_of, read_names, reads_of, task_of
+from unwaited.forms import GREATEST_VALUE, read_names, reads_of
 from unwaited.keepings import cell_of
-from unwaited.meanings import comes_to, first_of, two_come_to
+from unwaited.meanings import first_of, parts_come_to, parts_in_turn, two_come_to
 
 
 def bases_of(rings):
@@ -32,21 +32,21 @@ def row_of(loop, bases, part):
     return ("slow", name, d, first_of(loop, name))
 
 
-def last_row(loop, bases, name):
-    """Returns the ROW that puts away what a STEP of a task comes to."""
+def last_row(read, bases, name):
+    """Returns the ROW that puts away what a STEP of a task comes to, read being the names of all READ tasks."""
     if name in bases:
         return ("store", *bases[name])
-    return ("keep", name) if name in read_names(loop) else ("drop",)
+    return ("keep", name) if name in read else ("drop",)
 
 
 def code_of(loop, rings):
     """Returns the dict from the names of all tasks to their CODES."""
     bases = bases_of(rings)
+    read = read_names(loop)
     code = {}
     for name, _, body in loop[0]:
-        # Backwards each part stands behind its inner parts.
-        rows = [row_of(loop, bases, part) for part in parts_of(body)[::-1]]
-        code[name] = (*rows, last_row(loop, bases, name))
+        rows = [row_of(loop, bases, part) for part in parts_in_turn(body)]
+        code[name] = (*rows, last_row(read, bases, name))
     return code
 
 
@@ -113,19 +113,21 @@ def run_code(code, run):
 def run_keeping(loop, keeping, run):
     """Returns the dict from the STEPS of a RUN, ascending, to what their bodies come to, each kept STEP being read
     from its CELL, whatever is there."""
-    reads = {name: reads_of(body) for name, _, body in loop[0]}
+    # Taken apart once for each task, not for each STEP.
+    tasks = {name: (first, parts_in_turn(body), reads_of(body)) for name, first, body in loop[0]}
     places = {}
     values = {}
     for name, at in run:
+        _, parts, reads = tasks[name]
         finds = {}
-        for earlier, d in reads[name]:
+        for earlier, d in reads:
             if at < d:
-                finds[(earlier, d)] = first_of(loop, earlier)
+                finds[(earlier, d)] = tasks[earlier][0]
             elif cell_of(keeping, (earlier, at - d)) is None:
                 finds[(earlier, d)] = values[(earlier, at - d)]
             else:
                 finds[(earlier, d)] = places[cell_of(keeping, (earlier, at - d))]
-        values[(name, at)] = comes_to(task_of(loop, name)[2], at, finds)
+        values[(name, at)] = parts_come_to(parts, at, finds)
         if name in keeping[1]:
             places[cell_of(keeping, (name, at))] = values[(name, at)]
     return {step: values[step] for step in sorted(list(values))}

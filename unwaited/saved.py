@@ -5,7 +5,7 @@ from itertools import combinations
 from unwaited.arcs import dead_ring
 from unwaited.covers import with_waits
 from unwaited.errors import Dead, Nothing, TooMany
-from unwaited.forms import is_live_loop, names_of
+from unwaited.forms import is_live_loop, names_of, reads_of
 from unwaited.matchings import fewest_cells
 from unwaited.sums import reach
 
@@ -37,12 +37,25 @@ def follows_from(idle, d, rings):
     return any([d - less in rings for less in idle])
 
 
+def bare(loop):
+    """Returns a LOOP with the same READERS and WAITS that has nothing but reads in its bodies: these are taken apart
+    very often here."""
+    tasks = []
+    for name, first, body in loop[0]:
+        least = ("round",)
+        for earlier, d in reads_of(body):
+            least = ("two", "+", least, ("read", earlier, d))
+        tasks.append((name, first, least))
+    return (tuple(tasks), loop[1])
+
+
 def savings(loop, most):
     """Returns the dict from all WAITS with d at most most that the loop does not have, and with which it stays LIVE,
     to the fewest CELLS with them, None if there are none."""
     names = names_of(loop)
     sums = {name: reach(loop, name, most) for name in names}
     had = fewest_cells(loop, False)
+    plain = bare(loop)
     cells = {}
     for later in names:
         for earlier in names:
@@ -52,7 +65,7 @@ def savings(loop, most):
                 if wait in loop[1] or (d == 0 and 0 in sums[later][earlier]):
                     continue
                 follows = follows_from(idle, d, sums[earlier][earlier] + sums[later][later])
-                cells[wait] = had if follows else fewest_cells(with_more(loop, [wait]), False)
+                cells[wait] = had if follows else fewest_cells(with_more(plain, [wait]), False)
                 if cells[wait] == had:
                     idle.append(d)
     return cells
@@ -99,7 +112,7 @@ def fewest_waits(loop, m, most):
     if len(cells) > MOST_TO_COUPLE:
         raise TooMany(MOST_TO_COUPLE)
     for couple in couples_of(list(cells)):
-        more = with_more(loop, couple)
+        more = with_more(bare(loop), couple)
         if is_live_loop(more) and is_enough(fewest_cells(more, False), m):
             return couple
     raise Nothing()

@@ -2,9 +2,9 @@
 
 from heapq import heappop, heappush
 
-from unwaited.arcs import arcs_by_earlier, arcs_by_later, readers_of
+from unwaited.arcs import arcs_by_earlier, arcs_by_later, readers_by_name, readers_of
 from unwaited.errors import TooMany
-from unwaited.forms import has_just_keys, is_ascending, is_count, is_step, is_tuple_of, names_in_order, read_names
+from unwaited.forms import has_just_keys, is_ascending, is_count, is_step, is_tuple_of, names_in_order
 from unwaited.matchings import fewest_cells
 from unwaited.paths import before_along
 from unwaited.runs import window_of
@@ -12,22 +12,22 @@ from unwaited.runs import window_of
 MOST_ROUNDS = 40
 
 
-def readers_in(loop, rounds, step):
-    """Returns the list of the STEPS of a WINDOW that read a STEP of a READ task."""
-    name, at = step
-    return [(reader, at + d) for reader, d in readers_of(loop, name) if at + d < rounds]
+def readers_in(rounds, readers, at):
+    """Returns the list of the STEPS of a WINDOW that read a STEP of this round of a task with these READERS."""
+    return [(reader, at + d) for reader, d in readers if at + d < rounds]
 
 
 def counting(loop, rounds):
     """Returns the ascending tuple of the STEPS of a WINDOW that COUNT."""
-    least = {name: min([d for _, d in readers_of(loop, name)]) for name in read_names(loop)}
+    least = {name: min([d for _, d in readers]) for name, readers in readers_by_name(loop).items()}
     return tuple([(name, at) for name, d in least.items() for at in range(rounds - d)])
 
 
 def is_turn_in(loop, rounds, one, other, is_cut):
     """Tells whether a STEP that COUNTS has its TURN IN THE WINDOW ahead of another one."""
     before = before_along(arcs_by_later(loop), [other])
-    return all([step in before or (step == other and not is_cut) for step in readers_in(loop, rounds, one)])
+    readers = readers_in(rounds, readers_of(loop, one[0]), one[1])
+    return all([step in before or (step == other and not is_cut) for step in readers])
 
 
 def members_of(bits):
@@ -43,9 +43,10 @@ def members_of(bits):
 def sets_behind(loop, rounds, numbers):
     """Returns the dict from each STEP of a WINDOW to the set of those that it is BEFORE; numbers are their bits."""
     arcs = arcs_by_earlier(loop)
+    order = names_in_order(loop)[::-1]
     behind = {}
     for at in reversed(range(rounds)):
-        for name in names_in_order(loop)[::-1]:
+        for name in order:
             bits = 0
             for _, later, d in arcs[name]:
                 if at + d < rounds:
@@ -58,8 +59,8 @@ class Counted:
     """The STEPS of a WINDOW that COUNT, by their numbers among all of it, and their TURNS IN THE WINDOW."""
 
     def __init__(self, loop, rounds, is_cut):
-        """turns has for each number the set of those ahead of which it has its TURN; ranked are the numbers, each
-        behind those that have their TURNS ahead of it."""
+        """turns has for each number the set of those ahead of which it has its TURN; in ranked each is behind those
+        that have their TURNS ahead of it."""
         self.steps = window_of(loop, rounds)
         self.numbers = {step: number for number, step in enumerate(self.steps)}
         places = {name: place for place, name in enumerate(names_in_order(loop))}
@@ -71,11 +72,12 @@ class Counted:
         everything = 0
         for step in counted:
             everything |= 1 << self.numbers[step]
-        for step in counted:
+        readers = readers_by_name(loop)
+        for name, at in counted:
             bits = everything
-            for reader in readers_in(loop, rounds, step):
+            for reader in readers_in(rounds, readers[name], at):
                 bits &= behind[reader] | (0 if is_cut else 1 << self.numbers[reader])
-            self.turns[self.numbers[step]] = bits
+            self.turns[self.numbers[(name, at)]] = bits
 
     def counts(self, thing):
         """Tells whether any value is a STEP that COUNTS, if it is one of the loop's."""
@@ -197,11 +199,9 @@ def are_chains(loop, rounds, is_cut, thing):
 def is_crowd_in(loop, rounds, is_cut, thing):
     """Tells whether any value is a CROWD OF THE WINDOW."""
     counted = Counted(loop, rounds, is_cut)
-    if not isinstance(thing, tuple):
+    if not isinstance(thing, tuple) or not all([is_step(loop, step) and counted.counts(step) for step in thing]):
         return False
-    if not all([is_step(loop, step) and counted.counts(step) for step in thing]) or not is_ascending(thing):
-        return False
-    return not any([counted.has_turn(one, other) for one in thing for other in thing])
+    return is_ascending(thing) and not any([counted.has_turn(one, other) for one in thing for other in thing])
 
 
 def from_rounds(loop, is_cut):
@@ -388,7 +388,7 @@ def are_window_prices(loop, worths, rounds, is_cut, thing):
     for step in steps:
         paid = worths[step[0]] - extras[step] + heights[step]
         behind = [counted.steps[number] for number in members_of(counted.turns[counted.numbers[step]])]
-        if paid > min([heights[other] for other in behind], default=cell) or paid > cell:
+        if paid > min([cell] + [heights[other] for other in behind]):
             return False
     return True
 
