@@ -194,7 +194,9 @@ class Right(unittest.TestCase):
                      if items and all(is_whole or step[0] in lot for step, is_whole in items)
                      and slow.loses(keeping, items)]
             if wrong:
-                self.assertEqual(len(shortest), len(wrong[0]))
+                self.assertLessEqual(len(shortest), len(wrong[0]))
+                if max(at for (_, at), _ in shortest) < 3:
+                    self.assertEqual(len(shortest), len(wrong[0]))
                 told[any(not is_whole for _, is_whole in wrong[0])] += 1
             elif shortest is not None:
                 self.assertTrue(len(shortest) > 4 or max(at for (_, at), _ in shortest) >= 3)

@@ -42,10 +42,10 @@ def bare(loop):
     very often here."""
     tasks = []
     for name, first, body in loop[0]:
-        least = ("round",)
+        reads = ("round",)
         for earlier, d in reads_of(body):
-            least = ("two", "+", least, ("read", earlier, d))
-        tasks.append((name, first, least))
+            reads = ("two", "+", reads, ("read", earlier, d))
+        tasks.append((name, first, reads))
     return (tuple(tasks), loop[1])
 
 
@@ -111,8 +111,9 @@ def fewest_waits(loop, m, most):
             return (wait,)
     if len(cells) > MOST_TO_COUPLE:
         raise TooMany(MOST_TO_COUPLE)
+    plain = bare(loop)
     for couple in couples_of(list(cells)):
-        more = with_more(bare(loop), couple)
+        more = with_more(plain, couple)
         if is_live_loop(more) and is_enough(fewest_cells(more, False), m):
             return couple
     raise Nothing()
