@@ -132,3 +132,15 @@ def random_keeping(rng, names, most, cells, gaps=0.2):
     rows = {name: [None if rng.random() < gaps else rng.randrange(cells) for _ in range(period)] for name in names}
     had = sorted({cell for row in rows.values() for cell in row if cell is not None})
     return (period, {name: tuple(None if cell is None else had.index(cell) for cell in rows[name]) for name in rows})
+
+
+def random_rings(rng, names, most):
+    """RINGS of some of these READ tasks, with sizes of at most most."""
+    left = rng.sample(names, rng.randint(0, len(names)))
+    rings = []
+    while left:
+        size = rng.randint(1, most)
+        many = rng.randint(1, len(left))
+        rings.append((size, tuple(sorted((name, rng.randrange(size)) for name in left[:many]))))
+        left = left[many:]
+    return tuple(rings)

@@ -74,6 +74,22 @@ def slow_reads(expression):
     return found
 
 
+def meant(expression, at, value):
+    """What an EXPRESSION comes to, as [2] says it; value tells what is read."""
+    head = expression[0]
+    if head == "number":
+        return expression[1]
+    if head == "round":
+        return at % 10000
+    if head == "read":
+        return value(expression[1], expression[2])
+    if head == "if":
+        return meant(expression[2 if meant(expression[1], at, value) != 0 else 3], at, value)
+    one, other = meant(expression[2], at, value), meant(expression[3], at, value)
+    return {"+": (one + other) % 10000, "-": (one - other) % 10000, "*": one * other % 10000,
+            "<": int(one < other)}[expression[1]]
+
+
 def slow_arcs(loop):
     """All ARCS, as a set."""
     arcs = {(earlier, later, d) for later, earlier, d in loop[1]}

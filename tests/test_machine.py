@@ -2,8 +2,8 @@
 
 import unittest
 
-from slow import Slow, random_keeping
-from support import ALONE, BELT, PAIR, check_unchanged, loop_of, random_live_loop, rng_of, same
+from slow import Slow, random_keeping, random_rings
+from support import ALONE, BELT, PAIR, check_unchanged, loop_of, meant, random_live_loop, rng_of, same
 from unwaited.judged import is_right, losing_run_of
 from unwaited.machine import code_of, code_text, run_code, run_keeping
 from unwaited.matchings import least_matching
@@ -45,22 +45,6 @@ def code_as_said(slow, rings):
     return code
 
 
-def come_to(expression, at, read):
-    """What an EXPRESSION comes to, read telling what is found."""
-    head = expression[0]
-    if head == "number":
-        return expression[1]
-    if head == "round":
-        return at % 10000
-    if head == "read":
-        return read(expression[1], expression[2])
-    parts = [come_to(part, at, read) for part in (expression[2:] if head == "two" else expression[1:])]
-    if head == "if":
-        return parts[1] if parts[0] else parts[2]
-    one, other = parts
-    return {"+": one + other, "-": one - other, "*": one * other, "<": int(one < other)}[expression[1]] % 10000
-
-
 def played_as_said(slow, keeping, run):
     """What the STEPS of a RUN come to with a KEEPING, written down step by step."""
     firsts = {name: first for name, first, _ in slow.loop[0]}
@@ -72,21 +56,10 @@ def played_as_said(slow, keeping, run):
                 return firsts[earlier]
             cell = slow.cell(keeping, (earlier, at - d))
             return values[earlier, at - d] if cell is None else memory[cell]
-        values[name, at] = come_to(bodies[name], at, read)
+        values[name, at] = meant(bodies[name], at, read)
         if name in slow.readers and slow.cell(keeping, (name, at)) is not None:
             memory[slow.cell(keeping, (name, at))] = values[name, at]
     return values
-
-
-def random_rings(rng, names, most):
-    left = rng.sample(names, rng.randint(0, len(names)))
-    rings = []
-    while left:
-        size = rng.randint(1, most)
-        many = rng.randint(1, len(left))
-        rings.append((size, tuple(sorted((name, rng.randrange(size)) for name in left[:many]))))
-        left = left[many:]
-    return tuple(rings)
 
 
 def hurried_run(rng, loop, steps):

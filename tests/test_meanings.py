@@ -2,29 +2,13 @@
 
 import unittest
 
-from support import ALONE, check_unchanged, random_expression, random_live_loop, rng_of, slow_reads
+from support import ALONE, check_unchanged, meant, random_expression, random_live_loop, rng_of, slow_reads
 from unwaited.errors import NoTask
 from unwaited.looptexts import read_loop
 from unwaited.meanings import comes_to, first_of, plain_memory, reads_at, value_of, values_of
 from unwaited.runs import order_by
 
 TASKS = "task a first 7 = a @ 2 + 1\ntask b first 0 = if a < 9 then a * round else b @ 1 - a"
-
-
-def meant(expression, at, value):
-    """What an EXPRESSION comes to, as [2] says it; value tells what is read."""
-    head = expression[0]
-    if head == "number":
-        return expression[1]
-    if head == "round":
-        return at % 10000
-    if head == "read":
-        return value(expression[1], expression[2])
-    if head == "if":
-        return meant(expression[2 if meant(expression[1], at, value) != 0 else 3], at, value)
-    one, other = meant(expression[2], at, value), meant(expression[3], at, value)
-    return {"+": (one + other) % 10000, "-": (one - other) % 10000, "*": one * other % 10000,
-            "<": int(one < other)}[expression[1]]
 
 
 def slow_value(loop, name, at, known):

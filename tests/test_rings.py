@@ -3,7 +3,7 @@
 import math
 import unittest
 
-from slow import Slow
+from slow import Slow, random_rings
 from support import ALONE, ANY, BELT, PAIR, check_truth, check_unchanged, loop_of, mangled, random_live_loop, rng_of
 from unwaited.forms import is_keeping
 from unwaited.judged import is_right
@@ -46,17 +46,6 @@ def keeping_as_said(slow, rings):
             rows[name] = tuple(base + (at - offset) % size for at in range(period))
         base += size
     return (period, rows)
-
-
-def random_rings(rng, names, most):
-    left = rng.sample(names, rng.randint(0, len(names)))
-    rings = []
-    while left:
-        size = rng.randint(1, most)
-        many = rng.randint(1, len(left))
-        rings.append((size, tuple(sorted((name, rng.randrange(size)) for name in left[:many]))))
-        left = left[many:]
-    return tuple(rings)
 
 
 class Rings(unittest.TestCase):
