@@ -8,6 +8,7 @@ from unwaited.errors import Dead, Nothing, TooMany
 from unwaited.forms import is_live_loop, names_of, reads_of
 from unwaited.matchings import fewest_cells
 from unwaited.sums import reach
+from unwaited.turns import endless_tasks
 
 MOST_TO_COUPLE = 24
 
@@ -49,6 +50,11 @@ def bare(loop):
     return (tuple(tasks), loop[1])
 
 
+def has_fewest(loop, wait):
+    """Tells whether there are fewest CELLS of the loop with this WAIT more; this does not hang on its d."""
+    return len(endless_tasks(with_more(loop, [wait]))) == 0
+
+
 def savings(loop, most):
     """Returns the dict from all WAITS with d at most most that the loop does not have, and with which it stays LIVE,
     to the fewest CELLS with them, None if there are none."""
@@ -60,11 +66,12 @@ def savings(loop, most):
     for later in names:
         for earlier in names:
             idle = list(sums[earlier][later])
+            is_hopeless = had is None and not has_fewest(plain, (later, earlier, 1))
             for d in range(most + 1):
                 wait = (later, earlier, d)
                 if wait in loop[1] or (d == 0 and 0 in sums[later][earlier]):
                     continue
-                follows = follows_from(idle, d, sums[earlier][earlier] + sums[later][later])
+                follows = is_hopeless or follows_from(idle, d, sums[earlier][earlier] + sums[later][later])
                 cells[wait] = had if follows else fewest_cells(with_more(plain, [wait]), False)
                 if cells[wait] == had:
                     idle.append(d)

@@ -16,6 +16,15 @@ def lot_by(loop, is_cut):
     return names_of(loop) if is_cut else ()
 
 
+def are_all_read(sights, s):
+    """Tells whether all readers of a STEP are BEFORE the STEP that comes so many rounds later, or are it itself where
+    this is not barred; sights are as sights_from returns them, not None."""
+    for pictures, place, d, is_barred in sights:
+        if pictures.at(s - d) >> place & 1 == 0 or (is_barred and s == d):
+            return False
+    return True
+
+
 class Turns:
     """What TURNS there are in a LOOP; those ahead of STEPS of a lot of names are STRICT. What is found on the way
     is kept."""
@@ -29,17 +38,21 @@ class Turns:
         self.order = names_in_order(loop)[::-1]
         arcs = arcs_by_earlier(loop)
         self.reached = {name: reached_along(arcs, name) for name in self.order}
+        # Many tasks have the same between them, and then the same Pictures.
         self.pictures = {}
+        self.between = {}
         self.sights = {}
 
     def pictures_between(self, reader, b):
         """Returns Pictures of the SUMS to b from all that lies between a task and b, itself among them."""
-        # No more than this: what lies elsewhere would have them come again later, or much later.
-        names = [name for name in self.order if name in self.reached[reader] and b in self.reached[name]]
-        key = (b, tuple(names))
-        if key not in self.pictures:
-            self.pictures[key] = Pictures(self.turned, names, b)
-        return self.pictures[key]
+        if (reader, b) not in self.between:
+            # No more than this: what lies elsewhere would have them come again later, or much later.
+            names = [name for name in self.order if name in self.reached[reader] and b in self.reached[name]]
+            key = (b, tuple(names))
+            if key not in self.pictures:
+                self.pictures[key] = Pictures(self.turned, names, b)
+            self.between[(reader, b)] = self.pictures[key]
+        return self.between[(reader, b)]
 
     def sights_from(self, a, b):
         """Returns for each of the READERS (c, d) of a a tuple: Pictures, the place of c in them, d, and whether
@@ -56,12 +69,7 @@ class Turns:
     def has_turn(self, a, b, s):
         """Tells whether (a, i) has its TURN ahead of (b, i + s), s being any integer."""
         sights = self.sights_from(a, b)
-        if sights is None:
-            return False
-        for pictures, place, d, is_barred in sights:
-            if pictures.at(s - d) >> place & 1 == 0 or (is_barred and s == d):
-                return False
-        return True
+        return sights is not None and are_all_read(sights, s)
 
     def again(self, a, b):
         """Returns a tuple (begin, modulus): from begin on all TURNS come again, so many rounds later."""
@@ -90,7 +98,7 @@ class Turns:
             return None
         # No reader is BEFORE what stands in an earlier round.
         s = max([d for _, _, d, _ in sights])
-        while not self.has_turn(a, b, s):
+        while not are_all_read(sights, s):
             s += 1
             if s % NOW_AND_THEN == 0 and self.is_past(a, b, s):
                 return None
